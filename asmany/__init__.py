@@ -1,0 +1,1 @@
+"""Asmany: pools from which the number of pieces never hangs on the order."""

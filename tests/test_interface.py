@@ -1,0 +1,70 @@
+"""The interface: where everything is defined, and how its parameters are called."""
+
+import importlib
+import inspect
+import unittest
+
+INTERFACE = {
+    "errors": {
+        "PoolError": None, "InvalidBook": "(at)", "InvalidText": "(at)", "InvalidPool": "(at)",
+        "InvalidRun": "(at)", "InvalidFormula": "(at)", "InvalidNumber": "(word)", "Refused": "(word)",
+    },
+    "books": {
+        "Book": "(kinds, ways)", "least_ways": "(ways)", "is_harmless": "(ways)", "harm": "(ways)",
+        "tidy_book": "(kinds, ways)",
+    },
+    "flows": {
+        "check_widths": "(net, value)", "most_through": "(net, widths)", "through_plan": "(net, widths)",
+        "least_cut": "(net, widths)",
+    },
+    "nets": {"Net": "(roads, start, goal)"},
+    "runs": {
+        "check_pool": "(book, value)", "fitting": "(book, pool)", "is_stuck": "(book, pool)",
+        "check_run": "(book, pool, run)", "left": "(book, pool, run)", "is_full": "(book, pool, run)",
+    },
+    "stories": {
+        "is_story": "(book, value)", "all_stories": "(book)", "first_story": "(book)",
+        "story_pool": "(book, story)",
+    },
+    "bars": {
+        "is_bar": "(book, lot)", "bars": "(book)", "bar_within": "(book, lot)", "short_bar": "(book, pool)",
+        "lone_ways": "(book, bar)", "supports": "(book)",
+    },
+    "boats": {
+        "Boat": "(kinds, sizes, room)", "fills": "(boat)", "is_trip": "(boat, crowd, value)",
+        "is_even_boat": "(boat)", "split_of": "(boat)", "is_split": "(boat, value)",
+        "trips": "(boat, crowd)", "spare": "(boat, crowd)",
+    },
+    "edits": {
+        "is_bundle": "(value)", "bundle_of": "(book, number)", "book_with": "(book, bundle)",
+        "book_without": "(book, number)",
+    },
+    "exchanges": {
+        "partner": "(book, way, one, other)", "unpaired_story": "(book, way, one, other)",
+        "story_between": "(book, pool, run, other)",
+    },
+}
+
+
+class Interface(unittest.TestCase):
+
+    def test_names_and_parameters(self):
+        for name, told in INTERFACE.items():
+            module = importlib.import_module("asmany." + name)
+            for word, signature in told.items():
+                found = getattr(module, word)
+                self.assertEqual(found.__module__, module.__name__, word)
+                self.assertEqual(found.__name__, word)
+                if signature is not None:
+                    self.assertEqual(str(inspect.signature(found)), signature, word)
+
+    def test_classes_are_derived_from_nothing(self):
+        for name, told in INTERFACE.items():
+            module = importlib.import_module("asmany." + name)
+            for word in told:
+                if name != "errors" and inspect.isclass(getattr(module, word)):
+                    self.assertEqual(getattr(module, word).__bases__, (object,))
+
+
+if __name__ == "__main__":
+    unittest.main()

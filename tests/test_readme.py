@@ -1,0 +1,19 @@
+"""The examples of README.md."""
+
+import doctest
+import pathlib
+import unittest
+
+README = pathlib.Path(__file__).resolve().parent.parent / "README.md"
+
+
+class Readme(unittest.TestCase):
+
+    def test_examples(self):
+        result = doctest.testfile(str(README), module_relative=False)
+        self.assertEqual(result.failed, 0)
+        self.assertGreater(result.attempted, 3)
+
+
+if __name__ == "__main__":
+    unittest.main()
