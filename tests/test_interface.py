@@ -43,6 +43,32 @@ INTERFACE = {
         "partner": "(book, way, one, other)", "unpaired_story": "(book, way, one, other)",
         "story_between": "(book, pool, run, other)",
     },
+    "formulas": {
+        "check_formula": "(value)", "kinds_of": "(formula)", "sizes_of": "(formula)",
+        "meeting": "(formula, one, other)", "normal": "(formula)",
+    },
+    "parts": {"renamed_book": "(book, names)", "lacking": "(book, lot)", "plenty": "(book, lot)"},
+    "rows": {
+        "span": "(book)", "run_lengths": "(book, pool, *, most=2000)",
+        "run_of_length": "(book, pool, length, *, most=2000)", "shortest_run": "(book, pool, *, most=2000)",
+        "longest_run": "(book, pool, *, most=2000)", "count_runs": "(book, pool, *, most=2000)",
+        "run_at": "(book, pool, number, *, most=2000)", "place_of_run": "(book, pool, run, *, most=2000)",
+        "split_pools": "(book)",
+    },
+    "sessions": {"sessions_of": "(book, demand)", "unserved": "(book, demand, value)"},
+    "texts": {"read_book": "(text)", "show_book": "(book)"},
+    "clashes": {
+        "Clashes": "(jobs, pairs)", "row_of_four": "(clashes)", "is_row_of_four": "(clashes, value)",
+        "clash_tree": "(clashes)", "is_clash_tree": "(clashes, value)", "clash_book": "(clashes, names)",
+        "clash_formula": "(clashes, names)",
+    },
+    "cuts": {"formula_lacking": "(formula, lot)", "formula_plenty": "(formula, lot)"},
+    "layouts": {
+        "ways_of": "(formula, *, most=2000)", "book_of": "(formula)", "count_ways": "(formula)",
+        "way_at": "(formula, number)", "place_of_way": "(formula, value)", "share": "(formula, amounts)",
+        "is_way": "(formula, value)",
+    },
+    "mending": {"story_kinds": "(book)", "calming_lots": "(book)", "easing_lots": "(book)"},
 }
 
 

@@ -25,6 +25,8 @@ BANNED = set("""register mro elements open input law version_info with_traceback
     breakpoint builtins compile copyright credits delattr dir eval exec exit gc getattr globals hasattr help
     id importlib license locals methodcaller os quit setattr super type vars sys""".split())
 WORDS = re.compile(r"\b(type|typing|enum|Enum|Flag|Generic|Protocol|ABC|namedtuple|TypedDict)\b")
+# The shell of the examples adds an underscore to these while the tests run.
+BUILTINS = set(dir(builtins)) - {"_"}
 AT_ONCE = {"zip", "enumerate", "reversed", "range"}
 TAKES_AT_ONCE = {"list", "tuple", "dict", "sorted", "sum", "any", "all", "enumerate", "zip", "min", "max"}
 
@@ -59,7 +61,7 @@ class Language(unittest.TestCase):
         self.assertLessEqual(len(FILES), 100)
         for path in PACKAGE.iterdir():
             self.assertTrue(path.suffix == ".py" or path.name == "__pycache__", path)
-            self.assertTrue(path.stem == path.stem.lower() and path.stem not in dir(builtins))
+            self.assertTrue(path.stem == path.stem.lower() and path.stem not in BUILTINS)
         for _, text, tree in self.each():
             self.assertTrue(all(sign == "\n" or " " <= sign <= "~" for sign in text))
             self.assertLessEqual(len(text.splitlines()), 399)
@@ -125,11 +127,11 @@ class Language(unittest.TestCase):
                     for name in bound_names(node):
                         self.assertNotIn(name, outer)
                         self.assertNotIn(name, top)
-                        self.assertFalse(hasattr(builtins, name) or keyword.iskeyword(name), name)
+                        self.assertFalse(name in BUILTINS or keyword.iskeyword(name), name)
                 if isinstance(node, ast.Name):
                     self.assertNotIn(node.id, BANNED)
                     self.assertFalse(node.id == "_" and isinstance(node.ctx, ast.Load))
-                    if hasattr(builtins, node.id):
+                    if node.id in BUILTINS:
                         self.assertIn(node.id, CALLED | ERRORS)
 
     def test_words(self):
