@@ -84,7 +84,10 @@ def within(small, large):
 def has_within(ways, amounts):
     """Whether some of the ways is within the amounts."""
     for way in ways:
-        if within(way, amounts):
+        for one, other in zip(way, amounts):
+            if one > other:
+                break
+        else:
             return True
     return False
 

@@ -105,7 +105,7 @@ def _is_trip_of(boat, crowd, value):
 
 def _load_of_two(boat, a, b, pair):
     """The load with these two amounts of two kinds."""
-    load = [0 for _ in boat.sizes]
+    load = [0] * len(boat.sizes)
     load[a] = pair[0]
     load[b] = pair[1]
     return tuple(load)
@@ -119,24 +119,18 @@ def _split_of_two(large, small, room):
         # One large less makes room for twice the small ones: too many large ones stay.
         beside = rest // small
         return (most, beside), (most, beside), (most - 1, 2 * beside)
-    # `gain` small ones can go for the first large one that stays behind. The boat is even
-    # if it is so for each further one; `slip` is what the rest grows by each time.
+    # The first large one that stays behind makes room for `gain` small ones, and the rest grows
+    # by `slip`. The boat is even if it is so for each large one. Otherwise `less` is the number
+    # of those for which it is so: the next one makes room for one small one more, or one less.
     gain = (rest + large) // small
     slip = large - gain * small
     if room // small == most * gain:
         return None
     if slip > 0:
-        first = -((rest - small) // slip)
-        return _split_at(most, gain, first - 1, 1)
-    first = rest // -slip + 1
-    return _split_at(most, gain, first - 1, -1)
-
-
-def _split_at(most, gain, less, change):
-    """The split where one large less brings one small more, or less, than before."""
+        less = -((rest - small) // slip) - 1
+        before = (most - less + 1, gain * (less - 1))
+        behind = (most - less - 1, gain * (less + 1) + 1)
+        return before, behind, (most - less, gain * less)
+    less = rest // -slip
     level = (most - less, gain * less)
-    before = (most - less + 1, gain * (less - 1))
-    after = (most - less - 1, gain * (less + 1) + change)
-    if change > 0:
-        return before, after, level
-    return level, level, before
+    return level, level, (most - less + 1, gain * (less - 1))

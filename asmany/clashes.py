@@ -28,9 +28,9 @@ def row_of_four(clashes):
     near = _near(clashes)
     for a in range(clashes.jobs):
         for b in _jobs_of(near[a]):
-            for c in _jobs_of(near[b] & ~near[a] & ~(1 << a)):
+            for c in _jobs_of(near[b] & ~near[a]):
                 # Only a job behind a may be the last one.
-                ends = near[c] & ~near[a] & ~near[b] & ~(1 << b) & -(2 << a)
+                ends = near[c] & ~near[a] & ~near[b] & -(1 << a)
                 if ends != 0:
                     return a, b, c, _jobs_of(ends)[0]
     return None
@@ -40,7 +40,7 @@ def is_row_of_four(clashes, value):
     """Whether any value is a row of four."""
     if not isinstance(value, tuple) or len(value) != 4:
         return False
-    if not all([is_number(job) and job < clashes.jobs for job in value]):
+    if not all([is_number(job) for job in value]):
         return False
     a, b, c, d = value
     pairs = [(a, b), (b, c), (c, d), (a, c), (b, d), (a, d)]
@@ -127,7 +127,7 @@ def _tree_of(near, lot):
     jobs = _jobs_of(lot)
     if len(jobs) == 1:
         return "job", jobs[0]
-    far = [lot & ~row & ~(1 << job) for job, row in enumerate(near)]
+    far = [lot & ~row for row in near]
     for word, rows in (("beside", near), ("turn", far)):
         parts = _pieces(rows, lot)
         if len(parts) > 1:
@@ -153,7 +153,7 @@ def _pieces(rows, lot):
 def _has_each_once(jobs, value):
     """Whether any value has the form of a tree, with each job once."""
     seen = {}
-    joints = 0
+    # The parts wait in a list, as a value may be nested deeper than calls.
     waiting = [value]
     while waiting:
         part = waiting.pop()
@@ -164,11 +164,7 @@ def _has_each_once(jobs, value):
             if not is_number(inner) or inner >= jobs or inner in seen:
                 return False
             seen[inner] = True
-        elif word in ("beside", "turn") and isinstance(inner, tuple) and 2 <= len(inner) <= jobs:
-            joints = joints + 1
-            # Each one has two parts or more: this ends however deep the value is.
-            if joints == jobs:
-                return False
+        elif word in ("beside", "turn") and isinstance(inner, tuple) and len(inner) > 1:
             waiting.extend(inner)
         else:
             return False

@@ -102,7 +102,8 @@ def _first_two(counts):
     numbers = []
     for number, count in enumerate(counts):
         numbers.extend([number] * min(count, 2))
-    return (*numbers, None)[0], (*numbers, None)[1]
+    numbers.append(None)
+    return numbers[0], numbers[1]
 
 
 def _less(pool, way, count):

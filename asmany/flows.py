@@ -27,7 +27,7 @@ def through_plan(net, widths):
             break
         steps = _steps_to(net.goal, tree)
         number = _narrowest(steps, room)
-        path = tuple(sorted([net.roads[at][0] for at, _ in steps]))
+        path = tuple(sorted([net.roads[step[0]][0] for step in steps]))
         plan.append((path, number))
         flow = _more(flow, steps, -number)
     return tuple(sorted(plan))
@@ -42,7 +42,7 @@ def least_cut(net, widths):
 
 def _greatest_flow(net, widths):
     """For each road how much goes from its first end to its second one."""
-    flow = [0 for _ in widths]
+    flow = [0] * len(widths)
     while True:
         room = _residue(widths, flow)
         # The tree has shortest paths: so the steps are few, however wide the roads.

@@ -25,8 +25,6 @@ def unserved(book, demand, value):
 
 
 def _is_session(book, demand, amounts):
-    """Whether amounts are a session: one more of a kind is too much for all ways."""
-    if max(amounts) == 0 or not within(amounts, demand):
-        return False
+    """Whether amounts are a session: of the demand, no way that they are within takes more."""
     rows = [smaller(way, demand) for way in book.ways if within(amounts, way)]
-    return len(rows) > 0 and all([row == amounts for row in rows])
+    return max(amounts) > 0 and len(rows) > 0 and all([row == amounts for row in rows])

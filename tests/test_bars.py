@@ -73,7 +73,8 @@ class Bars(Case):
     def test_wrong_lots(self):
         wrong = [value for value in strange_but(0) if value.__class__ is not tuple or len(value) > 1]
         wrong += [
-            (None,), (True,), ((),), (Stubborn(),), ("b", "a"), ("a", "a"), ("e",), ("a", "e"), ("a", None), ["a"], {"a": 1}, ("ab",), (1,),
+            (None,), (True,), ((),), (Stubborn(),), ("b", "a"), ("a", "a"), ("e",), ("a", "e"), ("a", None), ["a"],
+            {"a": 1}, ("ab",), (1,),
             (("a",),), ("a", Stubborn()), (["a"],), ("a", "b", "c", "d", "e"), ("A",), ("",),
         ]
         for lot in wrong:

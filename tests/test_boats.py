@@ -65,7 +65,8 @@ class Boats(Case):
 
     def test_wrong_boats(self):
         nine = tuple("abcdefghi")
-        for kinds in strange_but(1) + ((None,), (Stubborn(),), nine, ("b", "a"), ("a", "a"), ("A",), ("aaaaaa",), ["a"], "a", ("a", 1)):
+        for kinds in strange_but(1) + ((None,), (Stubborn(),), nine, ("b", "a"), ("a", "a"), ("A",), ("aaaaaa",),
+                ["a"], "a", ("a", 1)):
             self.fault(Refused, "kinds", Boat, kinds, (1,), 1)
             self.fault(Refused, "kinds", Boat, kinds, None, None)
         for room in STRANGE + (0, 10 ** 9 + 1, "1", (1,), 2.0):

@@ -104,8 +104,10 @@ class ClashClass(Case):
 
     def test_wrong_pairs(self):
         for pairs in list(strange_but(0)) + [
-                [(0, 1)], {(0, 1): 1}, "01", ((0, 1), (0, 1)), ((0, 2), (0, 1)), ((1, 0),), ((1, 1),), ((0, 3),), ((-1, 1),),
-                ((0, 1, 2),), ((0,),), ([0, 1],), ((0, True),), ((False, 1),), ((0, 1.0),), ((0, 1), None), ((0, "1"),),
+                [(0, 1)], {(0, 1): 1}, "01", ((0, 1), (0, 1)), ((0, 2), (0, 1)), ((1, 0),), ((1, 1),), ((0, 3),),
+                ((-1, 1),),
+                ((0, 1, 2),), ((0,),), ([0, 1],), ((0, True),), ((False, 1),), ((0, 1.0),), ((0, 1), None),
+                ((0, "1"),),
                 ((0, None),), ((Stubborn(), 1),), ((0, Stubborn()),), ((0, 1), (Stubborn(), 2)), (0, 1)]:
             self.fault(Refused, "pairs", Clashes, 3, pairs)
         self.fault(Refused, "pairs", Clashes, 1, ((0, 1),))
@@ -120,8 +122,9 @@ class Rows(Case):
         self.assertIsNone(row_of_four(clashes=Clashes(4, ((0, 1), (0, 3), (1, 2), (2, 3)))))
 
     def test_any_value(self):
-        wrong = STRANGE + ((0, 1, 2), (0, 1, 2, 3, 3), [0, 1, 2, 3], (0, True, 2, 3), (0, 1, 2, 4), (-4, 1, 2, 3), (0, 1, 2, 3.0),
-                           (0, 1, 2, None), (False, 1, 2, 3), ("0", 1, 2, 3), (Stubborn(), 1, 2, 3), (0, 1, 2, [3]))
+        wrong = STRANGE + ((0, 1, 2), (0, 1, 2, 3, 3), [0, 1, 2, 3], (0, True, 2, 3), (0, 1, 2, 4), (-4, 1, 2, 3),
+                           (0, 1, 2, 3.0), (0, 1, 2, None), (False, 1, 2, 3), ("0", 1, 2, 3), (Stubborn(), 1, 2, 3),
+                           (0, 1, 2, [3]))
         for value in wrong:
             self.assertIs(is_row_of_four(PATH, value), False)
 
@@ -197,17 +200,34 @@ class Trees(Case):
         fine = ("turn", (one, ("beside", (two, three))))
         self.assertIs(is_clash_tree(clashes, fine), True)
         wrong = STRANGE + (
-            ("turn", [one, ("beside", (two, three))]), ["turn", (one, ("beside", (two, three)))], ("turn", (one, ("beside", (two,)))),
+            ("turn", [one, ("beside", (two, three))]), ["turn", (one, ("beside", (two, three)))],
+            ("turn", (one, ("beside", (two,)))),
             ("turn", (one, ("beside", ()))), ("turn", (one, ("beside", (two, two)))), ("turn", (one, two)),
             ("turn", (one, ("beside", (two, three)), three)), ("turn", (one, ("beside", (two, ("job", 3))))),
             ("turn", (one, ("beside", (two, ("job", True))))), ("turn", (("job", False), ("beside", (two, three)))),
-            ("turn", (one, ("beside", (two, ("job", None))))), ("turn", (one, ("and", (two, three)))), ("turn", (one, None)),
-            ("turn", (one, ("beside", (two, ("job", 2, 2))))), ("turn", (one, ("beside", (two, ("job",))))), ("turn",),
-            ("turn", (fine,)), (Stubborn(), (one, two)), ("turn", Stubborn()), ("job", Stubborn()), ("turn", (one, Stubborn())),
-            ("turn", ((one, two), three)), ("turn", {one: 1, two: 2}), ("job", (0,)), ("turn", fine, one), ("turn", "ab"),
+            ("turn", (one, ("beside", (two, ("job", None))))), ("turn", (one, ("and", (two, three)))),
+            ("turn", (one, None)),
+            ("turn", (one, ("beside", (two, ("job", 2, 2))))), ("turn", (one, ("beside", (two, ("job",))))),
+            ("turn",),
+            ("turn", (fine,)), (Stubborn(), (one, two)), ("turn", Stubborn()), ("job", Stubborn()),
+            ("turn", (one, Stubborn())),
+            ("turn", ((one, two), three)), ("turn", {one: 1, two: 2}), ("job", (0,)), ("turn", fine, one),
+            ("turn", "ab"),
             ("turn", (one, ("beside", (two, ("job", -1))))), ("turn", (one, ("beside", (two, ("job", 2.0))))),
         )
         for value in wrong:
+            self.assertIs(is_clash_tree(clashes, value), False)
+
+    def test_parts_without_jobs(self):
+        clashes = Clashes(4, ())
+        jobs = [("job", number) for number in range(4)]
+        self.assertIs(is_clash_tree(clashes, ("beside", (jobs[3], jobs[0], ("beside", (jobs[1], jobs[2]))))), True)
+        for value in (
+            ("beside", (jobs[0], jobs[1], ("beside", (jobs[2], jobs[3], jobs[0])))),
+            ("beside", (jobs[0], jobs[1], jobs[2], ("beside", (jobs[3],)))),
+            ("beside", (jobs[0], jobs[1], ("beside", (jobs[2], jobs[3], ("beside", ()))))),
+            ("beside", (("beside", tuple(jobs)),)), ("beside", (*jobs, jobs[0])), ("beside", (*jobs, ("job", 4))),
+        ):
             self.assertIs(is_clash_tree(clashes, value), False)
 
     def test_deep_values(self):
@@ -222,6 +242,10 @@ class Trees(Case):
                 for _ in range(30000):
                     deep = (word, (deep, ("job", 1)) if first else (("job", 1), deep))
                 self.assertIs(is_clash_tree(clashes, deep), False)
+        deep = ("job", 0)
+        for _ in range(30000):
+            deep = ("turn", (deep, deep))
+        self.assertIs(is_clash_tree(clashes, deep), False)
         self.assertIs(is_clash_tree(clashes, ("beside", (("job", 0),) * 10 ** 6)), False)
         self.assertIs(is_clash_tree(clashes, nested(30000)), False)
 
@@ -290,9 +314,12 @@ class Books(Case):
         for names in STRANGE + (EIGHT + ("i",), None):
             self.fault(Refused, "wide", clash_book, nine, names)
             self.fault(Refused, "wide", clash_formula, nine, names)
-        for names in STRANGE + (EIGHT[:3], EIGHT[:5], ["a", "b", "c", "d"], "abcd", ("a", "b", "c", "a"), ("a", "b", "c", "D"),
-                                ("a", "b", "c", ""), ("a", "b", "c", 1), ("a", "b", "c", Stubborn()), {"a": 1, "b": 2, "c": 3, "d": 4},
-                                ("a", "b", "c", "dddddd"), ("a", "b", "c", ("d",)), ("a", "b", "c", ["d"])):
+        wrong = STRANGE + (
+            EIGHT[:3], EIGHT[:5], ["a", "b", "c", "d"], "abcd", {"a": 1, "b": 2, "c": 3, "d": 4}, ("a", "b", "c", "a"),
+            ("a", "b", "c", "D"), ("a", "b", "c", ""), ("a", "b", "c", 1), ("a", "b", "c", Stubborn()),
+            ("a", "b", "c", "dddddd"), ("a", "b", "c", ("d",)), ("a", "b", "c", ["d"]),
+        )
+        for names in wrong:
             self.fault(Refused, "names", clash_book, PATH, names)
             self.fault(Refused, "names", clash_formula, PATH, names)
 

@@ -28,7 +28,7 @@
     ('c, d\\nb, c', 'c, d\\nb')
 
     >>> from asmany.books import Book
-    >>> from asmany.rows import count_runs, longest_run, place_of_run, run_at, run_lengths, shortest_run, span, split_pools
+    >>> from asmany.rows import count_runs, longest_run, run_at, run_lengths, shortest_run, span, split_pools
     >>> star = Book(("a", "b", "c", "d"), ((0, 0, 1, 1), (0, 1, 0, 1), (1, 0, 0, 1), (1, 1, 1, 0)))
     >>> span(star), run_lengths(star, (1, 1, 1, 3))
     (3, (1, 3))

@@ -49,11 +49,14 @@ class Formulas(Case):
     def test_wrong_forms(self):
         wrong = (
             ("kind",), ("kind", "A"), ("kind", ""), ("kind", "aaaaaa"), ("kind", "a", "b"), ("kind", 1), ("kind", A),
-            ["kind", "a"], ("and", A, B), ("and", (A,)), ("and", ()), ("or", (A,)), ("and", [A, B]), ("or", {A: 1, B: 2}),
+            ["kind", "a"], ("and", A, B), ("and", (A,)), ("and", ()), ("or", (A,)), ("and", [A, B]),
+            ("or", {A: 1, B: 2}),
             ("and", (A, B), 2), ("and",), ("or",), ("many", 1, A), ("many", 0, A), ("many", 61, A), ("many", True, A),
-            ("many", 2.0, A), ("many", "2", A), ("many", 2), ("many", A, 2), ("many", 2, A, B), ("xor", (A, B)), ("a", "b"),
+            ("many", 2.0, A), ("many", "2", A), ("many", 2), ("many", A, 2), ("many", 2, A, B), ("and", 2, A),
+            ("kind", 2, A), ("a", 2, A), ("xor", (A, B)), ("a", "b"),
             ("And", (A, B)), (b"kind", "a"), ("kind", Stubborn()), (Stubborn(), "a"), ("many", Stubborn(), A),
-            ("and", Stubborn()), "kind", {"kind": "a"}, (("kind", "a"),), ("kind", ("a",)), ("many", None, A), ("kind", "a\n"),
+            ("and", Stubborn()), "kind", {"kind": "a"}, (("kind", "a"),), ("kind", ("a",)), ("many", None, A),
+            ("kind", "a\n"),
         )
         for value in wrong + STRANGE:
             self.fault(InvalidFormula, 0, check_formula, value)

@@ -13,6 +13,7 @@ FILES = sorted(PACKAGE.glob("*.py"))
 CALLED = set("""len range enumerate zip min max sum abs sorted reversed int str bool list tuple dict
     set isinstance ord repr any all divmod""".split())
 ERRORS = set("Exception ValueError TypeError KeyError IndexError LookupError".split())
+VALUES = {"int", "str", "bool", "tuple", "list", "dict", "sum"}
 METHODS = set("""append clear copy count endswith extend find get index insert isalnum isalpha isdigit
     islower isspace isupper items join keys ljust lower lstrip partition pop remove replace reverse rfind
     rjust rpartition rsplit rstrip setdefault split splitlines startswith strip update upper values zfill
@@ -146,7 +147,7 @@ class Language(unittest.TestCase):
         for _, _, tree in self.each():
             called = {id(node.func) for node in ast.walk(tree) if isinstance(node, ast.Call)}
             for node in ast.walk(tree):
-                if isinstance(node, ast.Name) and node.id in CALLED - {"int", "str", "bool", "tuple", "list", "dict", "sum"}:
+                if isinstance(node, ast.Name) and node.id in CALLED - VALUES:
                     self.assertTrue(id(node) in called, node.id)
                 if isinstance(node, ast.Attribute) and id(node) in called:
                     self.assertTrue(node.attr in METHODS or node.attr == "__init__", node.attr)

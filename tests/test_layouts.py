@@ -49,14 +49,16 @@ class Ways(Case):
             self.fault(InvalidNumber, "number", way_at, formula, len(ways))
 
     def test_every_number(self):
-        for formula in (SIXTY_OF_TWO, TWO_HUNDRED, ("many", 3, ("or", (("and", (A, ("many", 2, ("or", (D, H))))), C, F)))):
+        three = ("many", 3, ("or", (("and", (A, ("many", 2, ("or", (D, H))))), C, F)))
+        for formula in (SIXTY_OF_TWO, TWO_HUNDRED, three):
             ways = ways_of(formula)
             for number, way in enumerate(ways):
                 self.assertEqual((way_at(formula, number), place_of_way(formula, way)), (way, number))
 
     def test_numbers_of_ways(self):
         for formula, count in (
-            (TWO_HUNDRED, 200), (("or", (TWO_HUNDRED, E)), 201), (TWO_THOUSAND, 2000), (("or", (TWO_THOUSAND, H)), 2001),
+            (TWO_HUNDRED, 200), (("or", (TWO_HUNDRED, E)), 201), (TWO_THOUSAND, 2000),
+            (("or", (TWO_THOUSAND, H)), 2001),
             (HUNDRED_THOUSAND, 100000), (("or", (HUNDRED_THOUSAND, H)), 100001), (SIXTY, 869648208), (A, 1),
         ):
             self.assertEqual(count_ways(formula), count)
@@ -101,7 +103,8 @@ class Numbers(Case):
         deep = ("and", (
             ("many", 4, ("or", (A, ("many", 15, ("or", (B, C, ("and", (D, E)))))))), ("many", 60, ("or", (F, G, H))),
         ))
-        for formula in (SIXTY, deep, ("many", 3, ("or", (("many", 20, ("or", EIGHT[:4])), ("many", 20, ("or", EIGHT[4:])))))):
+        halves = ("or", (("many", 20, ("or", EIGHT[:4])), ("many", 20, ("or", EIGHT[4:]))))
+        for formula in (SIXTY, deep, ("many", 3, halves)):
             count = count_ways(formula)
             self.assertGreater(count, 10 ** 6)
             chance = random.Random(1)
@@ -124,8 +127,10 @@ class Numbers(Case):
     def test_any_value(self):
         formula = ("and", (A, ("many", 2, ("or", (B, C)))))
         wrong = STRANGE + (
-            [1, 1, 1], (1, 1), (1, 1, 1, 0), (True, 1, 1), (1, True, 1), (1, 1.0, 1), (1, 1, None), (1, 1, "1"), (1, 1, 0),
-            (2, 2, 2), (0, 0, 0), (1, -1, 3), (1, 0, 10 ** 30), "111", {1: 1}, ((1, 1, 1),), (1, 1, [1]), (1, 1, Stubborn()),
+            [1, 1, 1], (1, 1), (1, 1, 1, 0), (True, 1, 1), (1, True, 1), (1, 1.0, 1), (1, 1, None), (1, 1, "1"),
+            (1, 1, 0),
+            (2, 2, 2), (0, 0, 0), (1, -1, 3), (1, 0, 10 ** 30), "111", {1: 1}, ((1, 1, 1),), (1, 1, [1]),
+            (1, 1, Stubborn()),
         )
         for value in wrong:
             self.assertIsNone(place_of_way(formula, value))

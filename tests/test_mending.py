@@ -45,7 +45,8 @@ class Mending(Case):
 
     def test_many(self):
         unlike = set()
-        for kinds, ways in all_small_books() + some_books(150, 150, kinds=4, ways=6) + some_books(151, 30, kinds=5, ways=6):
+        books = some_books(150, 150, kinds=4, ways=6) + some_books(151, 30, kinds=5, ways=6)
+        for kinds, ways in all_small_books() + books:
             book = Book(kinds, ways)
             told = [
                 tuple(kind for k, kind in enumerate(kinds) if any(ways[number][k] for number in story))
@@ -55,7 +56,8 @@ class Mending(Case):
             calming, easing = [], []
             for lot in subsets(kinds):
                 others = [k for k, kind in enumerate(kinds) if kind not in lot]
-                calm = not stories([way for way in ways if not any(way[k] for k in range(len(kinds)) if k not in others)])
+                inside = [k for k in range(len(kinds)) if k not in others]
+                calm = not stories([way for way in ways if not any(way[k] for k in inside)])
                 self.assertIs(calm, all(set(lot) & set(one) for one in story_kinds(book)))
                 if calm:
                     calming.append(lot)

@@ -133,6 +133,10 @@ class Lengths(Case):
         pool = (GREAT, 3, 4)
         self.assertEqual(run_lengths(book, pool), (4, 5, 6, 7))
         self.assertEqual(len(full_runs(book.ways, (9, 3, 4))), count_runs(book, pool))
+        for amount in (9, 2 ** 30 + 1, 2 ** 31, 2 ** 53 + 1, 2 ** 59 - 1, 2 ** 59 + 1, GREAT - 1):
+            self.assertEqual(run_lengths(book, (amount, 3, 4)), (4, 5, 6, 7))
+            self.assertEqual(run_lengths(book, (3, amount, 4)), (4, 5, 6, 7))
+            self.assertEqual(run_lengths(book, (4, 3, amount)), (4, 5, 6, 7))
         run = longest_run(book, pool)
         self.assertIs(is_full(book, pool, run), True)
         self.assertEqual(run_at(book, pool, place_of_run(book, pool, run)), run)
