@@ -36,10 +36,9 @@ def short_bar(book, pool):
 
 def lone_ways(book, bar):
     """For each kind of the bar the ways that use no other kind of the bar."""
-    mask = _checked_mask(book, bar)
+    check_bar(book, bar)
+    mask = _mask_of_lot(book, bar)
     supported = _support_masks(book)
-    if not hits_all(mask, supported):
-        raise Refused("bar")
     table = {}
     for kind in bar:
         alone = _mask_of_lot(book, (kind,))
@@ -50,6 +49,12 @@ def lone_ways(book, bar):
 def supports(book):
     """Those supports that do not have all kinds of another one, ascending."""
     return lots_of_masks(book.kinds, least_masks(_support_masks(book)))
+
+
+def check_bar(book, bar):
+    """Refuse any value that is no bar."""
+    if not is_bar(book, bar):
+        raise Refused("bar")
 
 
 def _support_masks(book):

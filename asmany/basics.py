@@ -1,11 +1,12 @@
 """Numbers, names, lots and amounts (chapter 2), for all modules."""
 
-from asmany.errors import InvalidPool, Refused
+from asmany.errors import InvalidNumber, InvalidPool, Refused
 
 MOST_AMOUNT = 60
 MOST_IN_POOL = 10 ** 18
 MOST_KINDS = 8
 MOST_WAYS = 200
+MOST_MOST = 100000
 
 
 def is_number(value):
@@ -62,6 +63,18 @@ def check_lot(value, kinds):
     """Refuse any value that is no lot of some of the kinds."""
     if not is_lot_of(value, kinds):
         raise Refused("lot")
+
+
+def check_kind(value, kinds):
+    """Refuse any value that is none of the kinds."""
+    if not isinstance(value, str) or value not in kinds:
+        raise Refused("kind")
+
+
+def check_most(most):
+    """Raise InvalidNumber unless `most` is a number that may be asked for."""
+    if not is_number_to(most, MOST_MOST) or most == 0:
+        raise InvalidNumber("most")
 
 
 def check_amounts(value, count):

@@ -6,9 +6,7 @@ from asmany.runs import is_way_number
 
 def is_story(book, value):
     """Whether any value is a story of the book."""
-    if not isinstance(value, tuple) or len(value) != 3:
-        return False
-    if not all([is_way_number(book, number) for number in value]):
+    if not are_three_ways(book, value):
         return False
     pool = story_pool(book, value)
     return not has_within(book.ways, minus(pool, book.ways[value[0]]))
@@ -44,6 +42,13 @@ def first_story(book):
     return None
 
 
+def are_three_ways(book, value):
+    """Whether any value is a tuple of three numbers of ways."""
+    if not isinstance(value, tuple) or len(value) != 3:
+        return False
+    return all([is_way_number(book, number) for number in value])
+
+
 def _pairs_told(book, table, s):
     """The pairs (t, u) with which a way s is a story, one bit for each.
 
@@ -51,7 +56,7 @@ def _pairs_told(book, table, s):
     too many one by one.
     """
     size = len(book.ways)
-    pairs = _joined([_later(size, t) for t in range(size)], size)
+    pairs = joined_rows([_later(size, t) for t in range(size)], size)
     for way in book.ways:
         fits = pairs
         for k, amount in enumerate(way):
@@ -74,15 +79,15 @@ def _pairs_with(book):
     table = []
     for k in range(len(book.kinds)):
         amounts = [way[k] for way in book.ways]
-        having = _ways_with(amounts)
+        having = ways_with(amounts)
         table.append([
-            _joined([later[t] & having[max(most - amounts[t], 0)] for t in range(size)], size)
+            joined_rows([later[t] & having[max(most - amounts[t], 0)] for t in range(size)], size)
             for most in range(len(having))
         ])
     return table
 
 
-def _ways_with(amounts):
+def ways_with(amounts):
     """For each sum of two amounts the ways that have as much alone, one bit for each."""
     having = [0] * (2 * max(amounts) + 1)
     for number, most in enumerate(amounts):
@@ -96,7 +101,7 @@ def _later(size, t):
     return (1 << size) - (1 << t)
 
 
-def _joined(rows, size):
+def joined_rows(rows, size):
     """The rows of bits as one integer, the first row lowest."""
     bits = 0
     for row in reversed(rows):

@@ -38,13 +38,13 @@ def _read_line(line):
         words = [word for word in part.split(" ") if word]
         if len(words) == 1:
             words = ["1", *words]
-        if len(words) != 2 or not _is_amount(words[0]) or not is_name(words[1]) or words[1] in row:
+        if len(words) != 2 or not is_amount(words[0]) or not is_name(words[1]) or words[1] in row:
             return None
         row[words[1]] = int(words[0])
     return row
 
 
-def _is_amount(word):
+def is_amount(word):
     """Whether a word is a number from 1 to 60, without leading zeros."""
     # A longer one is not even read: int would refuse thousands of digits.
     if len(word) > 2 or word[0] == "0":

@@ -40,6 +40,18 @@ def strange_but(count):
     return tuple(value for value in STRANGE if value.__class__ is not tuple or len(value) != count)
 
 
+def strange_lots():
+    """Values that are no lot of the kinds a, b, c and so on: the strange ones, and some more."""
+    found = [value for value in STRANGE if value.__class__ is not tuple or len(value) > 1
+             or len(value) == 1 and value[0].__class__ is not str]
+    return found + [("b", "a"), ("a", "a"), ("z",), ("a", "z"), ("a", None), ("A",), ((),), "ab", ["b"], ("", "a")]
+
+
+def strange_numbers():
+    """Values that are no number."""
+    return [value for value in STRANGE if value.__class__ is not int or value < 0] + ["1", (1,), [1], {1: 1}]
+
+
 class Case(unittest.TestCase):
     """A test case that asks for the class and the attribute of an error."""
 
@@ -121,6 +133,31 @@ def stories(ways):
         if not any(within(way, rest) for way in ways):
             found.append((s, t, u))
     return found
+
+
+def plain_sessions(ways, demand):
+    """All sessions of a demand by the definition."""
+    served = [row for row in boxes(demand) if any(row) and any(within(row, way) for way in ways)]
+    return tuple(row for row in served if not any(row != one and within(row, one) for one in served))
+
+
+def rounds(ways, demand, known=None):
+    """A dict from the lengths of complete rounds to the first one of each, and their number."""
+    known = {} if known is None else known
+    if demand not in known:
+        found, count = {}, 0
+        for session in plain_sessions(ways, demand):
+            later, more = rounds(ways, minus(demand, session), known)
+            count += more
+            for length, rest in later.items():
+                found.setdefault(length + 1, (session, *rest))
+        known[demand] = (found, count) if any(demand) else ({0: ()}, 1)
+    return known[demand]
+
+
+def served(ways, amounts):
+    """Whether some way has the amounts within it."""
+    return any(within(amounts, way) for way in ways)
 
 
 def kinds_and_ways(rows):
@@ -209,3 +246,53 @@ def named(formula):
     if formula[0] == "many":
         return named(formula[2])
     return tuple(sorted(sum([named(part) for part in formula[1]], ())))
+
+
+def some_nets(seed, many, roads=6):
+    """So many small nets, most of them with a path, always the same ones."""
+    from asmany.nets import Net
+    chance = random.Random(seed)
+    found = []
+    while len(found) < many:
+        places = chance.choice((2, 3, 4, 4, 4, 5))
+        rows = []
+        for name in "abcdefgh"[:chance.choice((chance.randint(1, roads), roads))]:
+            one, other = chance.sample(range(places), 2)
+            rows.append((name, one, other))
+        start, goal = chance.sample(range(places), 2)
+        found.append(Net(tuple(rows), start, goal))
+    return found
+
+
+def all_normal_formulas(kinds, room):
+    """All normal formulas with just these kinds in which the numbers multiply to at most `room`."""
+    return sorted(normal_forms(tuple(kinds), room, "any"), key=repr)
+
+
+def normal_forms(kinds, room, above):
+    """All normal formulas with just these kinds that may stand in a part with the word `above`."""
+    found = []
+    if len(kinds) == 1:
+        found.append(("kind", kinds[0]))
+    for word in ("and", "or"):
+        if len(kinds) > 1 and above != word and (above, word) != ("many", "and"):
+            for parts in partitions(kinds):
+                if len(parts) > 1:
+                    rows = [normal_forms(part, room, word) for part in parts]
+                    found.extend((word, row) for row in itertools.product(*rows))
+    if above != "many":
+        for number in range(2, room + 1):
+            found.extend(("many", number, part) for part in normal_forms(kinds, room // number, "many"))
+    return found
+
+
+def partitions(items):
+    """All partitions of ascending items into lots, in the order of their first items."""
+    if not items:
+        yield ()
+        return
+    first, rest = items[0], items[1:]
+    for beside in subsets(rest):
+        others = tuple(item for item in rest if item not in beside)
+        for more in partitions(others):
+            yield ((first, *beside), *more)

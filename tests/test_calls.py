@@ -1,11 +1,11 @@
 """[4] What holds for every call: nothing changes, and equal calls give equal results."""
 
 import copy
+import importlib
 import inspect
 import unittest
 
-from asmany import bars, boats, books, clashes, cuts, edits, exchanges, flows, formulas, layouts, mending
-from asmany import parts, rows, runs, sessions, stories, texts
+from asmany import parts
 from asmany.boats import Boat
 from asmany.books import Book
 from asmany.clashes import Clashes
@@ -25,7 +25,9 @@ def arguments():
         "bar": ("b", "c"), "story": (1, 0, 2), "boat": Boat(("a", "b"), (1, 2), 4), "crowd": (3, 4),
         "formula": FORMULA, "amounts": (2, 0, 2), "number": 0, "length": 2, "way": 1, "one": 0, "other": 2,
         "clashes": Clashes(3, ((0, 1),)), "names": {"a": "x", "b": "y", "c": "z", "d": "a"}, "text": "a, b\n2 c",
-        "bundle": (("e", 2),), "value": (1, 0, 2), "kinds": ("a", "b", "c", "d"), "ways": WAYS,
+        "bundle": (("e", 2),), "value": (1, 0, 2), "kinds": ("a", "b", "c", "d"), "ways": WAYS, "kind": "b",
+        "many": 3, "prices": (0, 1, 1, 0), "mix": ((0, 1, 0), (1, 0, 1)), "web": (("a", "b"), ("b", "c"), ("c", "d")),
+        "most": {"a": 2, "b": 2, "c": 4}, "pairs": {("a", "b"): 2, ("a", "c"): 0, ("b", "c"): 2},
     }
 
 
@@ -38,7 +40,12 @@ def chosen(call, name):
         table.update(one="a", other="b")
     if name in ("clash_book", "clash_formula"):
         table["names"] = ("x", "z", "y")
-    words = [word for word in inspect.signature(call).parameters if word != "most"]
+    if name == "read_formula":
+        table["text"] = "a and 2 of (b or c)"
+    told = inspect.signature(call).parameters
+    if "formula" in told:
+        table["pool"] = (2, 5, 3)
+    words = [word for word, one in told.items() if one.default is one.empty]
     return {word: table[word] for word in words}
 
 
@@ -54,10 +61,9 @@ def state(value):
 class Calls(unittest.TestCase):
 
     def each(self):
-        modules = (bars, boats, books, clashes, cuts, edits, exchanges, flows, formulas, layouts, mending, parts, rows,
-                   runs, sessions, stories, texts)
-        for module in modules:
-            for name in INTERFACE[module.__name__.split(".")[1]]:
+        for word, told in INTERFACE.items():
+            module = importlib.import_module("asmany." + word)
+            for name in told:
                 call = getattr(module, name)
                 if not inspect.isclass(call):
                     yield name, call
@@ -81,7 +87,7 @@ class Calls(unittest.TestCase):
             self.assertEqual(self.result(lambda: call(*given.values()), {}), first, name)
             if isinstance(first, tuple) and first and inspect.isclass(first[0]) and issubclass(first[0], PoolError):
                 refused.append(name)
-        self.assertEqual(sorted(refused), ["check_formula", "check_pool", "unserved"])
+        self.assertEqual(sorted(refused), ["check_formula", "check_pool", "check_web", "unserved"])
 
     def test_sequences_are_tuples(self):
         for name, call in self.each():

@@ -39,22 +39,66 @@
     >>> split_pools(star)
     ((1, 1, 1, 2), (1, 1, 2, 1), (1, 2, 1, 1), (2, 1, 1, 1))
 
-Where the document reads or shows formulas as texts, they stand here as tuples.
-
     >>> from asmany.layouts import count_ways, place_of_way, share, way_at, ways_of
-    >>> formula = ("many", 60, ("or", tuple(("kind", name) for name in "abcdefgh")))
+    >>> from asmany.shows import read_formula, show_formula
+    >>> formula = read_formula("60 of (a or b or c or d or e or f or g or h)")
     >>> count_ways(formula), way_at(formula, 60), place_of_way(formula, (0, 0, 0, 0, 0, 1, 0, 59))
     (869648208, (0, 0, 0, 0, 0, 0, 60, 0), 61)
-    >>> formula = ("and", (("kind", "a"), ("many", 2, ("or", (("kind", "b"), ("kind", "c"))))))
+    >>> formula = read_formula("a and 2 of (b or c)")
     >>> ways_of(formula), share(formula, (3, 1, 5)), share(formula, (3, 1, 4))
     (((1, 0, 2), (1, 1, 1), (1, 2, 0)), 3, None)
 
+    >>> from asmany.formulas import normal
+    >>> show_formula(normal(read_formula("2 of (c and 3 of (b or a) and (d and 2 of e))")))
+    '6 of (a or b) and 2 of c and 2 of d and 4 of e'
+    >>> show_formula(("and", (("kind", "or"), ("many", 2, ("many", 3, ("kind", "of"))))))
+    'or and 2 of 3 of of'
+
+    >>> from asmany.tables import formula_of_table, most_of, pair_table
+    >>> ring = read_book("a, b\\nb, c\\na, c")
+    >>> formula_of_table(most_of(ring), pair_table(ring)) == ("and", (("kind", "a"), ("kind", "b"), ("kind", "c")))
+    True
+
     >>> from asmany.cuts import formula_lacking, formula_plenty
-    >>> formula = ("many", 2, ("or", (("kind", "a"), ("and", (("kind", "b"), ("kind", "c"))))))
-    >>> formula_lacking(formula, ("c",))
-    ('many', 2, ('kind', 'a'))
-    >>> formula_plenty(formula, ("c",))
-    ('many', 2, ('or', (('kind', 'a'), ('kind', 'b'))))
+    >>> formula = read_formula("2 of (a or (b and c))")
+    >>> show_formula(formula_lacking(formula, ("c",))), show_formula(formula_plenty(formula, ("c",)))
+    ('2 of a', '2 of (a or b)')
+
+    >>> from asmany.pieces import needed, pieces, pieces_with_plenty, short_kinds
+    >>> pieces(formula, (1, 0, 1))
+    0
+    >>> needed(formula, (1, 0, 1), "a", 1), needed(formula, (1, 0, 1), "c", 1), short_kinds(formula, (1, 0, 1))
+    (2, None, ('a', 'b'))
+
+    >>> from asmany.rounds import round_lengths
+    >>> from asmany.mirrors import all_session_stories
+    >>> round_lengths(road, (1, 1, 1, 1)), all_session_stories(road)
+    ((2, 3), ((1, 0, 2),))
+
+    >>> from asmany.prices import mix_pool
+    >>> mix = ((0, 0, 0, 1), (1, 1, 1, 0))
+    >>> mix_pool(star, ("a", "b", "c"), mix)
+    (1, 1, 1, 3)
+
+    >>> from asmany.nets import Net, net_formula
+    >>> bridge = Net((("a", 0, 1), ("b", 0, 2), ("c", 1, 2), ("d", 1, 3), ("e", 2, 3)), 0, 3)
+    >>> net_formula(bridge) is None
+    True
+    >>> show_formula(net_formula(Net((("a", 0, 1), ("b", 2, 1), ("c", 2, 0), ("d", 4, 0)), 0, 2)))
+    '(a and b) or c'
+
+    >>> from asmany.pairs import closed_web, open_walk, web_formula
+    >>> open_walk((("a", "b"), ("b", "c"), ("c", "d"))), closed_web((("a", "b"), ("b", "c"), ("c", "d")))
+    (('a', 'b', 'c', 'd'), (('a', 'b'), ('a', 'd'), ('b', 'c'), ('c', 'd')))
+    >>> open_walk((("a", "b"), ("a", "c"), ("b", "c"))), show_formula(web_formula((("a", "b"), ("b", "c"))))
+    (('a', 'b', 'c', 'a'), '(a or c) and b')
+
+    >>> from asmany.asked import Asker
+    >>> hidden, asker = read_formula("3 of (a or 2 of b) and c"), Asker(("a", "b", "c"))
+    >>> while asker.wanted is not None:
+    ...     asker.tell(pieces(hidden, asker.wanted))
+    >>> show_formula(asker.found), len(asker.answers) <= 36
+    ('3 of (a or 2 of b) and c', True)
 
     >>> from asmany.mending import calming_lots, easing_lots
     >>> road = read_book("a, b\\nb, c\\nc, d")

@@ -17,7 +17,10 @@ INTERFACE = {
         "check_widths": "(net, value)", "most_through": "(net, widths)", "through_plan": "(net, widths)",
         "least_cut": "(net, widths)",
     },
-    "nets": {"Net": "(roads, start, goal)"},
+    "nets": {
+        "Net": "(roads, start, goal)", "all_paths": "(net)", "used_roads": "(net)", "net_book": "(net)",
+        "net_formula": "(net)",
+    },
     "runs": {
         "check_pool": "(book, value)", "fitting": "(book, pool)", "is_stuck": "(book, pool)",
         "check_run": "(book, pool, run)", "left": "(book, pool, run)", "is_full": "(book, pool, run)",
@@ -69,7 +72,36 @@ INTERFACE = {
         "is_way": "(formula, value)",
     },
     "mending": {"story_kinds": "(book)", "calming_lots": "(book)", "easing_lots": "(book)"},
+    "mirrors": {
+        "is_session_story": "(book, value)", "all_session_stories": "(book)", "first_session_story": "(book)",
+        "story_rounds": "(book, story)", "mirror_fault": "(book, one, other)", "session_story_of": "(book, story)",
+        "story_of_session": "(book, story)",
+    },
+    "pairs": {
+        "check_web": "(value)", "web_book": "(web)", "web_formula": "(web)", "open_walk": "(web)",
+        "closed_web": "(web)",
+    },
+    "pieces": {
+        "check_pool_of": "(formula, value)", "pieces": "(formula, pool)", "needed": "(formula, pool, kind, many)",
+        "short_kinds": "(formula, pool)", "pieces_with_plenty": "(formula, pool, lot)",
+    },
+    "prices": {
+        "are_prices": "(book, bar, value)", "way_costs": "(book, prices)", "rest_cost": "(book, prices)",
+        "price_limit": "(book, prices, pool)", "is_mix": "(book, bar, value)", "mix_pool": "(book, bar, mix)",
+    },
+    "rounds": {
+        "round_lengths": "(book, demand, *, most=2000)", "count_rounds": "(book, demand, *, most=2000)",
+        "round_of_length": "(book, demand, length, *, most=2000)",
+    },
+    "shows": {"read_formula": "(text)", "show_formula": "(formula)"},
+    "tables": {
+        "most_of": "(book)", "pair_table": "(book)", "formula_pairs": "(formula)",
+        "formula_of_table": "(most, pairs)",
+    },
+    "asked": {"Asker": "(kinds)"},
 }
+
+METHODS = {("asked", "Asker"): {"tell": "(self, number)"}}
 
 
 class Interface(unittest.TestCase):
@@ -83,6 +115,13 @@ class Interface(unittest.TestCase):
                 self.assertEqual(found.__name__, word)
                 if signature is not None:
                     self.assertEqual(str(inspect.signature(found)), signature, word)
+
+    def test_methods(self):
+        """They are defined in the class itself."""
+        for (name, word), told in METHODS.items():
+            found = vars(getattr(importlib.import_module("asmany." + name), word))
+            for method, signature in told.items():
+                self.assertEqual(str(inspect.signature(found[method])), signature, method)
 
     def test_classes_are_derived_from_nothing(self):
         for name, told in INTERFACE.items():

@@ -18,6 +18,9 @@ METHODS = set("""append clear copy count endswith extend find get index insert i
     islower isspace isupper items join keys ljust lower lstrip partition pop remove replace reverse rfind
     rjust rpartition rsplit rstrip setdefault split splitlines startswith strip update upper values zfill
     bit_length""".split())
+LIBRARY = {
+    "math": {"gcd", "lcm", "isqrt", "comb"}, "heapq": {"heappush", "heappop"}, "itertools": {"combinations", "product"},
+}
 STATEMENTS = (
     ast.Assign, ast.If, ast.While, ast.For, ast.Return, ast.Break, ast.Continue, ast.Pass, ast.Raise,
     ast.Assert, ast.Delete, ast.Expr, ast.Try, ast.FunctionDef, ast.ClassDef, ast.ImportFrom,
@@ -77,6 +80,10 @@ class Language(unittest.TestCase):
             found = [node for node in ast.walk(tree) if isinstance(node, (ast.Import, ast.ImportFrom))]
             for node in found:
                 self.assertIsInstance(node, ast.ImportFrom)
+                if node.module in LIBRARY:
+                    self.assertTrue({alias.name for alias in node.names} <= LIBRARY[node.module])
+                    self.assertTrue(all(alias.asname is None for alias in node.names))
+                    continue
                 self.assertTrue(node.level == 0 and node.module.startswith("asmany."))
                 where = PACKAGE / (node.module.split(".")[1] + ".py")
                 defined = ast.parse(where.read_text()).body
@@ -87,7 +94,9 @@ class Language(unittest.TestCase):
                         and one.targets[0].id == alias.name for one in defined
                     ), alias.name)
                     self.assertGreater(len(re.findall(rf"\b{alias.name}\b", text)), 1, alias.name)
-            graph[path.stem] = {node.module.split(".")[1] for node in found}
+            graph[path.stem] = {
+                node.module.split(".")[1] for node in found if node.module not in LIBRARY
+            }
         done = []
         while len(done) < len(graph):
             free = [name for name in graph if name not in done and graph[name] <= set(done)]
@@ -144,13 +153,17 @@ class Language(unittest.TestCase):
             self.assertIsNone(WORDS.search("\n".join(line.split("#")[0] for line in lines)))
 
     def test_calls(self):
+        own = {node.name for _, _, tree in self.each() for one in tree.body if isinstance(one, ast.ClassDef)
+               for node in one.body if isinstance(node, ast.FunctionDef)}
+        # A method of the package is not called as one that changes what Python's own values hold.
+        self.assertFalse(own & METHODS)
         for _, _, tree in self.each():
             called = {id(node.func) for node in ast.walk(tree) if isinstance(node, ast.Call)}
             for node in ast.walk(tree):
                 if isinstance(node, ast.Name) and node.id in CALLED - VALUES:
                     self.assertTrue(id(node) in called, node.id)
                 if isinstance(node, ast.Attribute) and id(node) in called:
-                    self.assertTrue(node.attr in METHODS or node.attr == "__init__", node.attr)
+                    self.assertTrue(node.attr in METHODS or node.attr in own, node.attr)
 
     def test_sets(self):
         """Sets are sorted or measured where they stand, or only asked with `in`."""

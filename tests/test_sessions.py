@@ -6,16 +6,10 @@ import unittest
 from asmany.books import Book
 from asmany.errors import InvalidPool, InvalidRun
 from asmany.sessions import sessions_of, unserved
-from plain import STRANGE, Case, Stubborn, boxes, minus, some_books, within
+from plain import STRANGE, Case, Stubborn, boxes, minus, plain_sessions, some_books
 
 ROAD = Book(("a", "b", "c", "d"), ((0, 0, 1, 1), (0, 1, 1, 0), (1, 1, 0, 0)))
 GREAT = 10 ** 18
-
-
-def plain_sessions(ways, demand):
-    """All sessions of a demand by the definition."""
-    served = [row for row in boxes(demand) if any(row) and any(within(row, way) for way in ways)]
-    return tuple(row for row in served if not any(row != one and within(row, one) for one in served))
 
 
 class Sessions(Case):
