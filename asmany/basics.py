@@ -59,10 +59,10 @@ def is_lot_of(value, kinds):
     return is_ascending(value)
 
 
-def check_lot(value, kinds):
-    """Refuse any value that is no lot of some of the kinds."""
+def check_lot(value, kinds, word="lot"):
+    """Refuse any value that is no lot of some of the kinds, by the name of the parameter."""
     if not is_lot_of(value, kinds):
-        raise Refused("lot")
+        raise Refused(word)
 
 
 def check_kind(value, kinds):

@@ -10,6 +10,7 @@ from asmany.boats import Boat
 from asmany.books import Book
 from asmany.clashes import Clashes
 from asmany.errors import PoolError
+from asmany.haste import price_table
 from asmany.nets import Net
 from test_interface import INTERFACE
 
@@ -27,6 +28,8 @@ def arguments():
         "clashes": Clashes(3, ((0, 1),)), "names": {"a": "x", "b": "y", "c": "z", "d": "a"}, "text": "a, b\n2 c",
         "bundle": (("e", 2),), "value": (1, 0, 2), "kinds": ("a", "b", "c", "d"), "ways": WAYS, "kind": "b",
         "many": 3, "prices": (0, 1, 1, 0), "mix": ((0, 1, 0), (1, 0, 1)), "web": (("a", "b"), ("b", "c"), ("c", "d")),
+        "comings": ((2, 3, 0), (1, 0, 3)), "orders": (2, 1), "budget": 20, "rest": 1,
+        "table": price_table(Book(("a", "b", "c", "d"), WAYS)),
         "most": {"a": 2, "b": 2, "c": 4}, "pairs": {("a", "b"): 2, ("a", "c"): 0, ("b", "c"): 2},
     }
 
@@ -44,7 +47,9 @@ def chosen(call, name):
         table["text"] = "a and 2 of (b or c)"
     told = inspect.signature(call).parameters
     if "formula" in told:
-        table["pool"] = (2, 5, 3)
+        table.update(pool=(2, 5, 3), prices=(5, 2, 2))
+    if name in ("hand_limits", "share_pool"):
+        table.update(lot=("b",), other=("a", "b", "c"), many=1)
     words = [word for word, one in told.items() if one.default is one.empty]
     return {word: table[word] for word in words}
 

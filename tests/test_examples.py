@@ -70,20 +70,52 @@
     >>> needed(formula, (1, 0, 1), "a", 1), needed(formula, (1, 0, 1), "c", 1), short_kinds(formula, (1, 0, 1))
     (2, None, ('a', 'b'))
 
+    >>> from asmany.plans import least_pools, plan_for
+    >>> least_pools(formula, 1), plan_for(formula, (10 ** 18, 0, 5), 10 ** 17)
+    (((0, 2, 2), (1, 1, 1), (2, 0, 0)), (((2, 0, 0), 100000000000000000),))
+
+    >>> from asmany.buying import cheapest, most_for, price_steps
+    >>> price_steps(formula, (1, 0, 1), (5, 2, 2)), cheapest(formula, (1, 0, 1), (5, 2, 2), 2)
+    (((2, 1), (8, None)), (0, 3, 2))
+
     >>> from asmany.rounds import round_lengths
     >>> from asmany.mirrors import all_session_stories
     >>> round_lengths(road, (1, 1, 1, 1)), all_session_stories(road)
     ((2, 3), ((1, 0, 2),))
 
+    >>> formula = read_formula("a and 2 of (b or c)")
+    >>> from asmany.moments import backlog, missing
+    >>> backlog(formula, ((2, 3, 0), (1, 0, 3)), (2, 1)), missing(formula, ((2, 3, 0), (1, 0, 3)), (2, 1), "b")
+    ((1, 0), 1)
+    >>> from asmany.hands import hand_limits, share_pool
+    >>> hand_limits(formula, (3, 3, 1), ("a", "b"), ("a", "c"))
+    (1, 0, 1)
+    >>> share_pool(formula, (2, 2, 2), ("a", "b"), ("a", "c"), 1, 1)
+    ((1, 2, 0), (1, 0, 2))
+
+    >>> from asmany.left import can_be_left, count_left, is_used_up, left_pools
+    >>> formula = read_formula("a and (b or 2 of c)")
+    >>> left_pools(formula, (1, 1, 3)), count_left(formula, (5, 3, 9))
+    (((0, 0, 3), (0, 1, 1)), 3)
+    >>> can_be_left(formula, (1, 1, 3), (0, 1, 3)), is_used_up(formula, (2, 1, 2)), is_used_up(formula, (2, 1, 3))
+    (False, True, False)
+
+    >>> from asmany.bars import bars
+    >>> from asmany.haste import haste, is_best
     >>> from asmany.prices import mix_pool
     >>> mix = ((0, 0, 0, 1), (1, 1, 1, 0))
-    >>> mix_pool(star, ("a", "b", "c"), mix)
-    (1, 1, 1, 3)
+    >>> is_best(star, ("a", "b", "c"), (1, 1, 1, 0), mix), mix_pool(star, ("a", "b", "c"), mix)
+    (True, (1, 1, 1, 3))
+    >>> bars(star), haste(star)
+    ((('a', 'b', 'c'), ('a', 'd'), ('b', 'd'), ('c', 'd')), (3, 1))
+    >>> haste(read_book("3 a\\n2 a, b\\n3 b"))
+    (1, 1)
 
     >>> from asmany.nets import Net, net_formula
     >>> bridge = Net((("a", 0, 1), ("b", 0, 2), ("c", 1, 2), ("d", 1, 3), ("e", 2, 3)), 0, 3)
-    >>> net_formula(bridge) is None
-    True
+    >>> from asmany.crossings import crossing
+    >>> net_formula(bridge), crossing(bridge) is None
+    (None, False)
     >>> show_formula(net_formula(Net((("a", 0, 1), ("b", 2, 1), ("c", 2, 0), ("d", 4, 0)), 0, 2)))
     '(a and b) or c'
 
@@ -105,6 +137,13 @@
     >>> calming_lots(road), easing_lots(road)
     ((('a',), ('b',), ('c',), ('d',)), (('b',), ('c',)))
 
+    >>> from asmany.neighbours import formula_with, may_come, may_go, stems
+    >>> formula = read_formula("d and (c or 2 of (a or b))")
+    >>> may_go(formula), stems(formula)
+    (((('a', 1), ('b', 1), ('d', 1)), (('c', 1), ('d', 1))), ((), (('d', 1),)))
+    >>> may_come(read_formula("4 of a or 2 of b")), show_formula(formula_with(formula, (("d", 1), ("e", 7))))
+    (((('a', 2), ('b', 1)),), '(2 of (a or b) or c or 7 of e) and d')
+
 Without its third way, the book of 4 of (a or b) is uneven.
 
     >>> from asmany.stories import first_story
@@ -122,7 +161,7 @@ class Examples(unittest.TestCase):
     def test_examples(self):
         result = doctest.testmod(sys.modules[__name__])
         self.assertEqual(result.failed, 0)
-        self.assertGreater(result.attempted, 25)
+        self.assertGreater(result.attempted, 80)
 
 
 if __name__ == "__main__":

@@ -99,6 +99,36 @@ INTERFACE = {
         "formula_of_table": "(most, pairs)",
     },
     "asked": {"Asker": "(kinds)"},
+    "builder": {"built": "(book)"},
+    "buying": {
+        "price_steps": "(formula, pool, prices)", "price_for": "(formula, pool, prices, many)",
+        "cheapest": "(formula, pool, prices, many)", "most_for": "(formula, pool, prices, budget)",
+    },
+    "crossings": {"crossing": "(net)", "is_crossing": "(net, value)", "crossed_widths": "(net)"},
+    "hands": {
+        "hand_limits": "(formula, pool, lot, other)", "share_pool": "(formula, pool, lot, other, many, rest)",
+    },
+    "haste": {
+        "bar_haste": "(book, bar)", "best_prices": "(book, bar)", "best_mix": "(book, bar)",
+        "is_best": "(book, bar, prices, mix)", "haste": "(book)", "price_table": "(book)",
+        "longest_bound": "(book, table, length)", "sure_length": "(book, table, length)",
+    },
+    "left": {
+        "is_used_up": "(formula, pool)", "can_be_left": "(formula, pool, value)", "count_left": "(formula, pool)",
+        "left_pools": "(formula, pool, *, most=2000)",
+    },
+    "moments": {
+        "totals": "(formula, comings)", "backlog": "(formula, comings, orders)",
+        "missing": "(formula, comings, orders, kind)",
+    },
+    "neighbours": {
+        "may_go": "(formula)", "may_come": "(formula)", "stems": "(formula)",
+        "formula_without": "(formula, bundle)", "formula_with": "(formula, bundle)",
+    },
+    "plans": {
+        "plan_size": "(formula)", "plan_for": "(formula, pool, many)", "is_plan": "(formula, pool, value)",
+        "least_pools": "(formula, many, *, most=2000)", "count_least_pools": "(formula, many)",
+    },
 }
 
 METHODS = {("asked", "Asker"): {"tell": "(self, number)"}}
