@@ -8,9 +8,9 @@ from asmany.pieces import pieces
 from asmany.tables import formula_of_table, two_of
 
 PLENTY = 10 ** 6
-# With so much of one kind, and plenty of the others that it needs, it alone limits the pieces,
-# and their number is different for each size.
-SOME = PLENTY // MOST_AMOUNT
+# With a sixtieth of that of one kind, and plenty of the others that it needs, it alone limits the
+# pieces, and their number is different for each size.
+SOME = 16666
 
 
 class Unanswered(Exception):

@@ -23,7 +23,7 @@ class Balance:
         self.scale = 1
         units = [[1 if k == at else 0 for k in range(size)] for at in range(size)]
         self.rows = [[1 if at == size - 1 else 0, *units[at]] for at in range(size)]
-        self.values = [0] * (size + 1)
+        self.gains = [0] * (size + 1)
         # Of each row what is taken: a word, and the number of a way or a row.
         self.basis = [("rest", at) for at in range(size)]
 
@@ -36,7 +36,7 @@ class Balance:
 
     def prices(self):
         """The prices of the kinds, and the bound: what one more slow way would bring."""
-        return self.values[1:-1], self.values[-1]
+        return self.gains[1:-1], self.gains[-1]
 
     def counts(self, word):
         """How often each way is taken as a slow or a fast one."""
@@ -49,7 +49,7 @@ class Balance:
     def _best_step(self):
         """What brings most when it is taken next, None if nothing brings more."""
         prices, bound = self.prices()
-        steps = [(value, ("rest", at)) for at, value in enumerate(self.values[1:])]
+        steps = [(value, ("rest", at)) for at, value in enumerate(self.gains[1:])]
         for number, way in enumerate(self.ways):
             cost = sum([price * amount for price, amount in zip(prices, way)])
             steps.append((cost - self.scale, ("fast", number)))
@@ -62,10 +62,10 @@ class Balance:
         column, gain = self._column(taken)
         size = len(column)
         changes = [sum([row[k + 1] * column[k] for k in range(size)]) for row in self.rows]
-        loss = sum([self.values[k + 1] * column[k] for k in range(size)]) - gain * self.scale
+        loss = sum([self.gains[k + 1] * column[k] for k in range(size)]) - gain * self.scale
         at = self._first_used_up(changes)
         pivot = self.rows[at]
-        self.values = self._without(self.values, pivot, loss, changes[at])
+        self.gains = self._without(self.gains, pivot, loss, changes[at])
         for other, change in enumerate(changes):
             if other != at:
                 self.rows[other] = self._without(self.rows[other], pivot, change, changes[at])

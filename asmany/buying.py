@@ -118,10 +118,10 @@ def _divided(rows, many):
     """How many of so many pieces each row gives if the cheapest layers come first."""
     layers = []
     for at, row in enumerate(rows):
-        # Their place in the row keeps numbers that are None from being compared.
-        layers.extend([(price, at, place, number) for place, (price, number) in enumerate(row)])
+        # In a row the prices rise, so that numbers, which may be None, are never compared.
+        layers.extend([(price, at, number) for price, number in row])
     numbers = [0] * len(rows)
-    for _, at, _, number in sorted(layers):
+    for _, at, number in sorted(layers):
         taken = many if number is None else min(many, number)
         numbers[at] = numbers[at] + taken
         many = many - taken

@@ -100,7 +100,7 @@ def _crossing_of_all(net, roads):
     if len(branches) != 4 or max(list(counts.values())) > 3 or min(list(counts.values())) < 2:
         return None
     ways = _ways_between(around, branches)
-    if sum([len(way) for way in list(ways.values())]) < 2 * len(around) or len(ways) < 12:
+    if len(ways) < 12:
         return None
     (p, q), way = [item for item in ways.items() if (None, True) in item[1]][0]
     a, b = [place for place in branches if place not in (p, q)]

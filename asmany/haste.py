@@ -27,7 +27,6 @@ def best_mix(book, bar):
 
 def is_best(book, bar, prices, mix):
     """Whether two values are prices and a mix by which the haste of the bar is reached."""
-    check_bar(book, bar)
     if not are_prices(book, bar, prices) or not is_mix(book, bar, mix):
         return False
     costs = way_costs(book, prices)

@@ -26,8 +26,9 @@ def can_be_left(formula, pool, value):
 
 def count_left(formula, pool):
     """The number of the pools that can be left."""
-    check_pool_of(formula, pool)
-    number = _checked_number(formula, pool)
+    number = pieces(formula, pool)
+    if number * max(list(sizes_of(formula).values())) > MOST_TAKEN:
+        raise Refused("wide")
     limits = {kind: (0, amount) for kind, amount in zip(kinds_of(formula), pool)}
     return count_sums(formula, number, limits)[number]
 
@@ -41,11 +42,3 @@ def left_pools(formula, pool, *, most=2000):
     taken = sums_within(formula, pieces(formula, pool), pool)
     # What is ascending, taken from the pool, descends.
     return tuple([minus(pool, amounts) for amounts in reversed(taken)])
-
-
-def _checked_number(formula, pool):
-    """The number of pieces, refused if so many may take too much of a kind."""
-    number = pieces(formula, pool)
-    if number * max(list(sizes_of(formula).values())) > MOST_TAKEN:
-        raise Refused("wide")
-    return number

@@ -6,10 +6,10 @@ all that stands beside the way down to it is an "or" or single: anything else wo
 of the way for other ways, too.
 """
 
-from asmany.basics import MOST_KINDS, is_lot_of
+from asmany.basics import MOST_KINDS
 from asmany.edits import is_bundle
 from asmany.errors import Refused
-from asmany.formulas import kinds_of, normal, sizes_of
+from asmany.formulas import kinds_of, normal, part_with, sizes_of
 
 
 def may_go(formula):
@@ -89,11 +89,6 @@ def _plus(one, other):
     return tuple([(name, table[name]) for name in sorted(table)])
 
 
-def _times(bundle, number):
-    """So many times a bundle."""
-    return tuple([(name, amount * number) for name, amount in bundle])
-
-
 def _replaced(parts, at, news):
     """The parts with others in the place of one."""
     return [*parts[:at], *news, *parts[at + 1:]]
@@ -103,18 +98,14 @@ def _changes_inside(formula, changes_of):
     """For each change inside of a part: its whole bundle, and the formula that it makes."""
     found = []
     parts = formula[1]
-    wide = [part for part in parts if not _is_single(part)]
-    if formula[0] == "and" and len(wide) != 1:
-        return found
     beside = ()
     if formula[0] == "and":
-        for part in parts:
-            if part != wide[0]:
-                beside = _plus(beside, _bundle(part))
+        beside, wide = _parts_of_and(formula)
+        if len(wide) > 1:
+            return found
     for at, part in enumerate(parts):
-        if part in wide:
-            for bundle, changed in changes_of(part):
-                found.append((_plus(beside, bundle), (formula[0], tuple(_replaced(parts, at, [changed])))))
+        for bundle, changed in changes_of(part):
+            found.append((_plus(beside, bundle), (formula[0], tuple(_replaced(parts, at, [changed])))))
     return found
 
 
@@ -134,7 +125,7 @@ def _goings(formula):
 
 def _goings_of_two(formula):
     """The bundle that may go if a formula is two of two single parts: one of each."""
-    if formula[1] != 2 or formula[2][0] == "kind" or len(formula[2][1]) > 2:
+    if formula[1] != 2 or formula[2][0] != "or" or len(formula[2][1]) > 2:
         return []
     parts = formula[2][1]
     if not _is_single(parts[0]) or not _is_single(parts[1]):
@@ -203,11 +194,9 @@ def _with_beside(formula, stem, further):
     if not stem:
         return "or", (formula, further)
     if formula[0] == "or":
-        names = [name for name, amount in stem]
-        parts = list(formula[1])
-        for at, part in enumerate(parts):
-            if is_lot_of(tuple(names), kinds_of(part)):
-                return "or", tuple(_replaced(parts, at, [_with_beside(part, stem, further)]))
+        inside = part_with(formula[1], stem[0][0])
+        others = [part for part in formula[1] if part != inside]
+        return "or", (*others, _with_beside(inside, stem, further))
     singles, wide = _parts_of_and(formula)
     rest = [pair for pair in singles if pair not in stem]
     inner = tuple([pair for pair in stem if pair not in singles])

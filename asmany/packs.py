@@ -6,7 +6,7 @@
 # by 2 ** 61 - 1: with fields of 61 bits all pools with one sum would fall together in a dict.
 FIELD = 69
 GUARD_AT = 60
-GUARD = 1 << GUARD_AT
+GUARD = 1 << 60
 
 
 def packed(amounts):

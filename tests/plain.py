@@ -249,8 +249,7 @@ def named(formula):
 
 
 def some_nets(seed, many, roads=6):
-    """So many small nets, most of them with a path, always the same ones."""
-    from asmany.nets import Net
+    """Roads, start and goal of so many small nets, most of them with a path, always the same ones."""
     chance = random.Random(seed)
     found = []
     while len(found) < many:
@@ -260,7 +259,7 @@ def some_nets(seed, many, roads=6):
             one, other = chance.sample(range(places), 2)
             rows.append((name, one, other))
         start, goal = chance.sample(range(places), 2)
-        found.append(Net(tuple(rows), start, goal))
+        found.append((tuple(rows), start, goal))
     return found
 
 

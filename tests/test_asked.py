@@ -68,6 +68,8 @@ class Found(Case):
                     part = ("or", (self.so_many(number // common, A), self.so_many(60 // common, B)))
                     self.check(self.so_many(common, part))
             self.check(("and", (("many", number, A), ("many", 60, B))))
+        self.check(("and", (A, ("many", 60, B))))
+        self.check(("and", (("many", 60, A), B, ("or", (C, ("kind", "d"))))))
 
     def so_many(self, number, formula):
         return formula if number == 1 else ("many", number, formula)
@@ -112,6 +114,22 @@ class AnyNumbers(Case):
                     self.assertTrue(self.fits(asker.found, asker))
                     self.assertEqual(normal(asker.found), asker.found)
                     self.assertEqual(named(asker.found), kinds)
+
+    def test_no_size(self):
+        """Numbers that no size from 1 to 60 gives."""
+        found = {}
+        for number in range(17000):
+            asker = Asker(("a",))
+            asker.tell(number)
+            if asker.found is not None:
+                found[number] = asker.found
+        right = {}
+        asker = Asker(("a",))
+        for size in range(1, 61):
+            formula = A if size == 1 else ("many", size, A)
+            right[pieces(formula, asker.wanted)] = formula
+        self.assertEqual(found, right)
+        self.assertEqual(len(right), 60)
 
     def test_nearly_right(self):
         """Of all formulas just the one found gives all the numbers told."""

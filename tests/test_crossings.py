@@ -101,7 +101,8 @@ class Crossings(Case):
 
     def test_many(self):
         told = {"none": 0, "even": 0, "crossed": 0}
-        for net in some_nets(630, 500, roads=8):
+        for rows in some_nets(630, 500, roads=8):
+            net = Net(*rows)
             told[self.check(net)] += 1
         chance = random.Random(63)
         for _ in range(300):
@@ -155,6 +156,42 @@ class Crossings(Case):
             told[right] += 1
             self.assertIs(is_crossing(net, value), right)
         self.assertGreater(min(told), 50)
+
+    def test_common_places(self):
+        """No place inside of one part is a place of another one."""
+        net = Net((("a", 0, 4), ("b", 4, 1), ("c", 0, 2), ("d", 1, 2), ("e", 1, 3), ("f", 2, 4), ("g", 4, 3)), 0, 3)
+        value = ((0, 1, 2, 3), ((), ("a", "b"), ("c",), ("d",), ("e",), ("f", "g"), ()))
+        self.assertFalse(is_plain_crossing(net, value))
+        self.assertIs(is_crossing(net, value), False)
+        start = Net((("a", 5, 0), ("b", 0, 5), ("c", 5, 1), ("d", 0, 2), ("e", 1, 2), ("f", 1, 3), ("g", 2, 3)), 5, 3)
+        value = ((0, 1, 2, 3), (("a",), ("b", "c"), ("d",), ("e",), ("f",), ("g",), ()))
+        self.assertIs(is_crossing(start, value), False)
+        self.assertIs(is_crossing(start, ((0, 1, 2, 3), (("a",), ("c",)) + value[1][2:])), False)
+        branch = Net((("a", 0, 2), ("b", 2, 1), ("c", 0, 2), ("d", 1, 2), ("e", 1, 3), ("f", 2, 3)), 0, 3)
+        value = ((0, 1, 2, 3), ((), ("a", "b"), ("c",), ("d",), ("e",), ("f",), ()))
+        self.assertIs(is_crossing(branch, value), False)
+
+    def test_branches_at_the_ends(self):
+        """But for p the start and q the goal, none of the four is one of these."""
+        roads = (("a", 0, 1), ("b", 0, 2), ("c", 1, 2), ("d", 1, 3), ("e", 2, 3))
+        parts = (("a",), ("b",), ("c",), ("d",), ("e",))
+        for start, first in ((1, ("x", 1, 0)), (2, ("x", 0, 2))):
+            self.assertIs(is_crossing(Net((*roads, first), start, 3), ((0, 1, 2, 3), (("x",), *parts, ()))), False)
+        for goal, last in ((1, ("x", 1, 3)), (2, ("x", 3, 2))):
+            self.assertIs(is_crossing(Net((*roads, last), 0, goal), ((0, 1, 2, 3), ((), *parts, ("x",)))), False)
+        both = Net((*roads, ("x", 3, 0), ("y", 0, 3)), 3, 0)
+        self.assertIs(is_crossing(both, ((0, 1, 2, 3), (("x",), *parts, ("y",)))), False)
+        self.assertIs(is_crossing(both, ((3, 1, 2, 0), ((), ("d",), ("e",), ("c",), ("a",), ("b",), ()))), True)
+        goal = Net((*roads, ("x", 3, 0)), 4, 0)
+        self.assertIs(is_crossing(goal, ((0, 1, 2, 3), ((), *parts, ("x",)))), False)
+
+    def test_doubled_roads(self):
+        """Four places with three roads each that are no crossing."""
+        net = Net((("a", 0, 1), ("b", 0, 1), ("c", 1, 2), ("d", 2, 3), ("e", 2, 3)), 0, 3)
+        self.assertIsNone(crossing(net))
+        self.assertIsNone(crossed_widths(net))
+        beside = Net((*ROADS, ("x", 7, 8), ("y", 7, 8)), 0, 3)
+        self.assertTrue(is_plain_crossing(beside, crossing(beside)))
 
     def test_wrong_values(self):
         four, parts = FOUND

@@ -165,6 +165,23 @@ class Language(unittest.TestCase):
                 if isinstance(node, ast.Attribute) and id(node) in called:
                     self.assertTrue(node.attr in METHODS or node.attr in own, node.attr)
 
+    def test_attributes(self):
+        """None that is assigned has the name of a method that changes, or goes through, a value of Python's own."""
+        barred = set("""items keys values pop update append clear extend insert remove reverse setdefault sort args
+            encode decode hex fromhex format mro""".split())
+        for _, _, tree in self.each():
+            for node in ast.walk(tree):
+                if isinstance(node, ast.Attribute) and isinstance(node.ctx, ast.Store):
+                    self.assertNotIn(node.attr, barred)
+                    self.assertNotIn(node.attr, CALLED)
+
+    def test_module_level(self):
+        """Names are given plain values, in which no other name stands."""
+        for _, _, tree in self.each():
+            for node in tree.body:
+                if isinstance(node, ast.Assign):
+                    self.assertFalse([one for one in ast.walk(node.value) if isinstance(one, ast.Name)])
+
     def test_sets(self):
         """Sets are sorted or measured where they stand, or only asked with `in`."""
         for _, _, tree in self.each():

@@ -16,6 +16,16 @@ FORMULA = read_formula("d and (c or 2 of (a or b))")
 SIXTY = ("many", 60, ("or", EIGHT))
 
 
+NESTED = (
+    "d and (c or (a and b))", "a and (b or (c and (d or e)))", "a or (b and (c or (d and e)))",
+    "a and b and (c or (2 of d and (e or f)))", "a and (b or (2 of (c or d) and e))", "c and b and 2 of a",
+    "a and (b or 2 of (c or (d and e)))", "(a or b) and (c or (d and e))", "a and (2 of b or (2 of c and 4 of d))",
+    "2 of (a or (b and (c or d)))", "2 of ((a and (b or c)) or d)", "3 of (a or b)", "2 of (a or b or c)", "4 of (a or b)",
+    "2 of ((a and 2 of b) or 3 of c)", "a and (2 of (b or c) or (d and 2 of (e or f)))",
+    "2 of a and (2 of b or (3 of c and (2 of d or 4 of e)))", "a and (b or (c and d) or (e and (f or g)))",
+)
+
+
 def bundle(kinds, way):
     return tuple((kind, amount) for kind, amount in zip(kinds, way) if amount)
 
@@ -29,7 +39,8 @@ def is_even(ways):
 
 def small_formulas(seed, most=14):
     """Formulas with few ways: all of two kinds, and some of more."""
-    found = all_normal_formulas("ab", 4) + all_normal_formulas("abc", 2)[::4] + some_formulas(seed, 150, kinds=5, top=4)
+    found = [read_formula(text) for text in NESTED]
+    found += all_normal_formulas("ab", 4) + all_normal_formulas("abc", 2)[::4] + some_formulas(seed, 150, kinds=5, top=4)
     return [formula for formula in found if len(formula_ways(formula, named(formula))) <= most]
 
 
@@ -137,7 +148,7 @@ class Neighbours(Case):
             tops = [min(max(way[k] for way in ways), 4) for k in range(len(kinds))]
             right = []
             for row in itertools.islice(boxes(tops), 500):
-                more = tuple(chance.randint(1, 3) for _ in range(chance.randint(1, 2)))
+                more = tuple(chance.randint(1, 3) for _ in range(chance.randint(1, min(2, 8 - len(kinds)))))
                 wide = [way + (0,) * len(more) for way in ways] + [row + more]
                 further = tuple(zip("xyz", more))
                 found = formula_with(formula, bundle(kinds, row) + further)
@@ -226,6 +237,13 @@ class Neighbours(Case):
         self.fault(Refused, "wide", formula_with, SIXTY, (("i", 1),))
         self.fault(Refused, "wide", formula_with, A, tuple((name, 1) for name in "abcdefghi"))
         self.assertIsNone(formula_with(SIXTY, (("a", 1),)))
+
+    def test_nested_stems(self):
+        formula = read_formula("d and (c or (a and b))")
+        self.assertEqual(stems(formula), ((), (("a", 1), ("d", 1)), (("b", 1), ("d", 1)), (("d", 1),)))
+        for one, text in (((), "(((a and b) or c) and d) or e"), ((("a", 1), ("d", 1)), "((a and (b or e)) or c) and d"),
+                          ((("b", 1), ("d", 1)), "(((a or e) and b) or c) and d"), ((("d", 1),), "((a and b) or c or e) and d")):
+            self.assertEqual(show_formula(formula_with(formula, one + (("e", 1),))), text)
 
 
 if __name__ == "__main__":

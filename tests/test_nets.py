@@ -87,7 +87,8 @@ class Paths(Case):
 
     def test_many(self):
         told = {"none": 0, "even": 0, "uneven": 0, "unused": 0}
-        for net in some_nets(610, 400, roads=7):
+        for rows in some_nets(610, 400, roads=7):
+            net = Net(*rows)
             paths = plain_paths(net)
             self.assertEqual(all_paths(net), paths)
             kinds = tuple(sorted(set(sum(paths, ()))))
@@ -117,7 +118,8 @@ class Paths(Case):
 
     def test_eight_roads(self):
         chance = random.Random(8)
-        for net in some_nets(611, 60, roads=8):
+        for rows in some_nets(611, 60, roads=8):
+            net = Net(*rows)
             paths = all_paths(net)
             self.assertEqual(len(set(paths)), len(paths))
             if paths:
