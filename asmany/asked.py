@@ -14,10 +14,10 @@ SOME = 16666
 
 
 class Unanswered(Exception):
-    """What is asked next: the number of pieces from `pool`."""
+    """What is asked next: the number of pieces from the pool `wanted`."""
 
-    def __init__(self, pool):
-        self.pool = pool
+    def __init__(self, wanted):
+        self.wanted = wanted
 
 
 class Asker:
@@ -46,7 +46,7 @@ def _next_step(kinds, answers):
     try:
         formula = _formula_told(kinds, told)
     except Unanswered as question:
-        return question.pool, None
+        return question.wanted, None
     if formula is None or any([pieces(formula, pool) != number for pool, number in answers]):
         return None, None
     return None, formula

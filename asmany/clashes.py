@@ -25,14 +25,14 @@ class Clashes:
 
 def row_of_four(clashes):
     """The first row of four, None if there is none."""
-    near = _near(clashes)
+    near = near_of(clashes)
     for a in range(clashes.jobs):
-        for b in _jobs_of(near[a]):
-            for c in _jobs_of(near[b] & ~near[a]):
+        for b in jobs_of(near[a]):
+            for c in jobs_of(near[b] & ~near[a]):
                 # Only a job behind a may be the last one.
                 ends = near[c] & ~near[a] & ~near[b] & -(1 << a)
                 if ends != 0:
-                    return a, b, c, _jobs_of(ends)[0]
+                    return a, b, c, jobs_of(ends)[0]
     return None
 
 
@@ -50,7 +50,7 @@ def is_row_of_four(clashes, value):
 
 def clash_tree(clashes):
     """The only tree without needless parts, in the order of first jobs; None without one."""
-    return _tree_of(_near(clashes), (1 << clashes.jobs) - 1)
+    return _tree_of(near_of(clashes), (1 << clashes.jobs) - 1)
 
 
 def is_clash_tree(clashes, value):
@@ -59,13 +59,13 @@ def is_clash_tree(clashes, value):
         return False
     rows = [0] * clashes.jobs
     _add_turns(value, rows)
-    return rows == _near(clashes)
+    return rows == near_of(clashes)
 
 
 def clash_book(clashes, names):
     """The book of the greatest lots of jobs no two of which clash."""
     _check_names(clashes, names)
-    near = _near(clashes)
+    near = near_of(clashes)
     kinds = tuple(sorted(names))
     jobs = [names.index(kind) for kind in kinds]
     ways = []
@@ -100,7 +100,7 @@ def _check_names(clashes, names):
         raise Refused("names")
 
 
-def _near(clashes):
+def near_of(clashes):
     """For each job those with which it clashes, one bit for each."""
     near = [0] * clashes.jobs
     for i, j in clashes.pairs:
@@ -109,7 +109,7 @@ def _near(clashes):
     return near
 
 
-def _jobs_of(lot):
+def jobs_of(lot):
     """The jobs of a lot, ascending."""
     return [job for job in range(lot.bit_length()) if lot >> job & 1]
 
@@ -117,14 +117,14 @@ def _jobs_of(lot):
 def _clashing(near, lot):
     """The jobs that clash with one of a lot."""
     found = 0
-    for job in _jobs_of(lot):
+    for job in jobs_of(lot):
         found = found | near[job]
     return found
 
 
 def _tree_of(near, lot):
     """The tree of the jobs of a lot, None if there is none."""
-    jobs = _jobs_of(lot)
+    jobs = jobs_of(lot)
     if len(jobs) == 1:
         return "job", jobs[0]
     far = [lot & ~row for row in near]
@@ -178,7 +178,7 @@ def _add_turns(tree, rows):
     lots = [_add_turns(part, rows) for part in tree[1]]
     if tree[0] == "turn":
         for lot in lots:
-            for job in _jobs_of(lot):
+            for job in jobs_of(lot):
                 rows[job] = rows[job] | sum(lots) - lot
     return sum(lots)
 

@@ -45,7 +45,7 @@ def formula_with(formula, bundle):
     stem = tuple([pair for pair in bundle if pair[0] in kinds])
     if stem not in stems(formula):
         return None
-    return normal(_with_beside(normal(formula), stem, _all_of(others)))
+    return normal(_with_beside(normal(formula), stem, all_of(others)))
 
 
 def _changed(changes, bundle):
@@ -58,30 +58,30 @@ def _changed(changes, bundle):
     return None
 
 
-def _is_single(formula):
+def is_single(formula):
     """Whether a normal formula has just one way."""
     if formula[0] == "and":
-        return all([_is_single(part) for part in formula[1]])
+        return all([is_single(part) for part in formula[1]])
     return formula[0] == "kind" or formula[0] == "many" and formula[2][0] == "kind"
 
 
-def _bundle(formula):
+def single_bundle(formula):
     """The bundle of the way of a single formula."""
     return tuple(sizes_of(formula).items())
 
 
-def _all_of(bundle):
+def all_of(bundle):
     """The formula of one way with these amounts."""
-    return _joined("and", [("kind", name) if amount == 1 else ("many", amount, ("kind", name))
+    return joined("and", [("kind", name) if amount == 1 else ("many", amount, ("kind", name))
                            for name, amount in bundle])
 
 
-def _joined(word, parts):
+def joined(word, parts):
     """The parts together; one part alone."""
     return parts[0] if len(parts) == 1 else (word, tuple(parts))
 
 
-def _plus(one, other):
+def bundle_sum(one, other):
     """The sum of two bundles, perhaps with common kinds."""
     table = dict(one)
     for name, amount in other:
@@ -100,37 +100,37 @@ def _changes_inside(formula, changes_of):
     parts = formula[1]
     beside = ()
     if formula[0] == "and":
-        beside, wide = _parts_of_and(formula)
+        beside, wide = parts_of_and(formula)
         if len(wide) > 1:
             return found
     for at, part in enumerate(parts):
         for bundle, changed in changes_of(part):
-            found.append((_plus(beside, bundle), (formula[0], tuple(_replaced(parts, at, [changed])))))
+            found.append((bundle_sum(beside, bundle), (formula[0], tuple(_replaced(parts, at, [changed])))))
     return found
 
 
 def _goings(formula):
     """Each bundle that may go, with the formula that is left."""
     if formula[0] == "many":
-        return _goings_of_two(formula)
+        return goings_of_two(formula)
     if formula[0] == "kind":
         return []
     found = _changes_inside(formula, _goings)
     if formula[0] == "or":
         for at, part in enumerate(formula[1]):
-            if _is_single(part):
-                found.append((_bundle(part), _joined("or", _replaced(formula[1], at, []))))
+            if is_single(part):
+                found.append((single_bundle(part), joined("or", _replaced(formula[1], at, []))))
     return found
 
 
-def _goings_of_two(formula):
+def goings_of_two(formula):
     """The bundle that may go if a formula is two of two single parts: one of each."""
     if formula[1] != 2 or formula[2][0] != "or" or len(formula[2][1]) > 2:
         return []
     parts = formula[2][1]
-    if not _is_single(parts[0]) or not _is_single(parts[1]):
+    if not is_single(parts[0]) or not is_single(parts[1]):
         return []
-    both = _plus(_bundle(parts[0]), _bundle(parts[1]))
+    both = bundle_sum(single_bundle(parts[0]), single_bundle(parts[1]))
     return [(both, ("or", tuple([("many", 2, part) for part in parts])))]
 
 
@@ -146,26 +146,26 @@ def _comings(formula):
         for other in parts[at + 1:]:
             halves = [_half(one), _half(other)]
             rest = [part for part in formula[1] if part not in (one, other)]
-            two = ("many", 2, ("or", tuple([_all_of(half) for half in halves])))
-            found.append((_plus(halves[0], halves[1]), _joined("or", [*rest, two])))
+            two = ("many", 2, ("or", tuple([all_of(half) for half in halves])))
+            found.append((bundle_sum(halves[0], halves[1]), joined("or", [*rest, two])))
     return found
 
 
 def _is_halved(part):
     """Whether a part has just one way, of which the half is whole."""
-    return _is_single(part) and all([amount % 2 == 0 for name, amount in _bundle(part)])
+    return is_single(part) and all([amount % 2 == 0 for name, amount in single_bundle(part)])
 
 
 def _half(part):
     """The half of the bundle of a single part."""
-    return tuple([(name, amount // 2) for name, amount in _bundle(part)])
+    return tuple([(name, amount // 2) for name, amount in single_bundle(part)])
 
 
-def _parts_of_and(formula):
+def parts_of_and(formula):
     """The kinds of the single parts of an "and", with their amounts, and its other parts."""
-    singles = [part for part in formula[1] if _is_single(part)]
-    wide = [part for part in formula[1] if not _is_single(part)]
-    return _bundle(_joined("and", singles)) if singles else (), wide
+    singles = [part for part in formula[1] if is_single(part)]
+    wide = [part for part in formula[1] if not is_single(part)]
+    return single_bundle(joined("and", singles)) if singles else (), wide
 
 
 def _stems(formula):
@@ -177,7 +177,7 @@ def _stems(formula):
         return found
     if formula[0] != "and":
         return [()]
-    singles, wide = _parts_of_and(formula)
+    singles, wide = parts_of_and(formula)
     found = [()]
     for pair in singles:
         found = [*found, *[(*stem, pair) for stem in found]]
@@ -185,7 +185,7 @@ def _stems(formula):
         # All of the kinds together would leave nothing beside which there may be more.
         found.pop()
     if len(wide) == 1:
-        found.extend([_plus(singles, stem) for stem in _stems(wide[0]) if stem])
+        found.extend([bundle_sum(singles, stem) for stem in _stems(wide[0]) if stem])
     return found
 
 
@@ -197,10 +197,10 @@ def _with_beside(formula, stem, further):
         inside = part_with(formula[1], stem[0][0])
         others = [part for part in formula[1] if part != inside]
         return "or", (*others, _with_beside(inside, stem, further))
-    singles, wide = _parts_of_and(formula)
+    singles, wide = parts_of_and(formula)
     rest = [pair for pair in singles if pair not in stem]
     inner = tuple([pair for pair in stem if pair not in singles])
     if inner:
-        return "and", (_all_of(singles), _with_beside(wide[0], inner, further))
-    left = _joined("and", [*wide, *[_all_of((pair,)) for pair in rest]])
-    return "and", (_all_of(stem), ("or", (left, further)))
+        return "and", (all_of(singles), _with_beside(wide[0], inner, further))
+    left = joined("and", [*wide, *[all_of((pair,)) for pair in rest]])
+    return "and", (all_of(stem), ("or", (left, further)))

@@ -44,49 +44,72 @@ def divided_counts(one, other):
 
 def sums_within(formula, number, pool):
     """All sums of so many ways within a pool with so many pieces, ascending."""
+    return laid_out(formula, number, pool, number_from)
+
+
+def laid_out(formula, number, pool, most_from):
+    """All amounts of so many, each a part's number at most what `most_from` tells of it, ascending.
+
+    With the number of pieces they are sums of ways within the pool, with that of sessions they
+    are what is greatest within the pool and a sum of so many ways.
+    """
     sizes = sizes_of(formula)
     kinds = kinds_of(formula)
     room = {kind: min(amount, number * sizes[kind]) for kind, amount in zip(kinds, pool)}
     # Each sum is one integer as long as it grows, with a field for each kind, the first highest.
     field = max(list(room.values())).bit_length()
     fields = [field * k for k in reversed(range(len(kinds)))]
-    sums = _sums_of(formula, [number], room, dict(zip(kinds, fields)))[number]
+    layout = Layout(room, dict(zip(kinds, fields)), most_from)
     last = (1 << field) - 1
-    return [tuple([whole >> at & last for at in fields]) for whole in sorted(sums)]
+    return [tuple([whole >> at & last for at in fields]) for whole in sorted(layout.sums(formula, [number])[number])]
 
 
-def _sums_of(formula, wanted, room, fields):
-    """For each wanted number all sums of so many ways within the room, packed.
+class Layout:
+    """The room for amounts that are laid out, and the fields of the integers that they are packed into."""
 
-    The room has so many ways. Nothing is laid out that is not part of a whole sum.
-    """
-    if formula[0] == "kind":
-        return {number: [number << fields[formula[1]]] for number in wanted}
-    if formula[0] == "many":
-        sums = _sums_of(formula[2], [number * formula[1] for number in wanted], room, fields)
-        return {number: sums[number * formula[1]] for number in wanted}
-    if formula[0] == "or":
-        return _divided_sums(formula[1], wanted, room, fields)
-    sums = {number: [0] for number in wanted}
-    for part in formula[1]:
-        more = _sums_of(part, wanted, room, fields)
-        sums = {number: _all_sums(sums[number], more[number]) for number in wanted}
-    return sums
+    def __init__(self, room, fields, most_from):
+        self.room = room
+        self.fields = fields
+        self.most_from = most_from
 
+    def most(self, formula):
+        """The most that a part can have."""
+        action = self.most_from
+        return action(formula, self.room)
 
-def _divided_sums(parts, wanted, room, fields):
-    """For each wanted number all sums of so many ways of the parts of an "or"."""
-    tops = [number_from(part, room) for part in parts]
-    sums = {0: [0]}
-    for at, part in enumerate(parts):
-        reached = _reached_numbers(wanted, sum(tops[:at + 1]), sum(tops[at + 1:]))
-        steps = [(number, k) for number in reached for k in sums if k <= number <= k + tops[at]]
-        more = _sums_of(part, sorted(set([number - k for number, k in steps])), room, fields)
-        rows = {number: [] for number in reached}
-        for number, k in steps:
-            rows[number].extend(_all_sums(sums[k], more[number - k]))
-        sums = rows
-    return sums
+    def sums(self, formula, wanted):
+        """For each wanted number, or the most that there can be, all amounts of so many, packed.
+
+        Nothing is laid out that is not part of a whole sum.
+        """
+        top = self.most(formula)
+        if formula[0] == "kind":
+            return {number: [min(number, top) << self.fields[formula[1]]] for number in wanted}
+        if formula[0] == "many":
+            found = self.sums(formula[2], [number * formula[1] for number in wanted])
+            return {number: found[number * formula[1]] for number in wanted}
+        if formula[0] == "or":
+            found = self._divided(formula[1], sorted(set([min(number, top) for number in wanted])))
+            return {number: found[min(number, top)] for number in wanted}
+        found = {number: [0] for number in wanted}
+        for part in formula[1]:
+            more = self.sums(part, wanted)
+            found = {number: _all_sums(found[number], more[number]) for number in wanted}
+        return found
+
+    def _divided(self, parts, wanted):
+        """For each wanted number all amounts of so many of the parts of an "or"."""
+        tops = [self.most(part) for part in parts]
+        found = {0: [0]}
+        for at, part in enumerate(parts):
+            reached = _reached_numbers(wanted, sum(tops[:at + 1]), sum(tops[at + 1:]))
+            steps = [(number, k) for number in reached for k in found if k <= number <= k + tops[at]]
+            more = self.sums(part, sorted(set([number - k for number, k in steps])))
+            rows = {number: [] for number in reached}
+            for number, k in steps:
+                rows[number].extend(_all_sums(found[k], more[number - k]))
+            found = rows
+        return found
 
 
 def _reached_numbers(wanted, top, rest):

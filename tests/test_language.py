@@ -32,7 +32,8 @@ WORDS = re.compile(r"\b(type|typing|enum|Enum|Flag|Generic|Protocol|ABC|namedtup
 # The shell of the examples adds an underscore to these while the tests run.
 BUILTINS = set(dir(builtins)) - {"_"}
 AT_ONCE = {"zip", "enumerate", "reversed", "range"}
-TAKES_AT_ONCE = {"list", "tuple", "dict", "sorted", "sum", "any", "all", "enumerate", "zip", "min", "max"}
+TAKES_AT_ONCE = {"list", "tuple", "dict", "sorted", "sum", "any", "all", "enumerate", "zip", "min", "max",
+                 "combinations"}
 
 
 def docstrings(tree):
