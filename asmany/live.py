@@ -57,8 +57,7 @@ class Live:
         """Take back the last change that is not taken back."""
         if not self._past:
             raise Refused("undo")
-        self._state = self._past[-1]
-        self._past = self._past[:-1]
+        self._state = self._past.pop()
 
     def changes(self):
         """The number of changes that are not taken back."""
@@ -97,7 +96,7 @@ class Live:
 
     def _change(self, book, stock, brought, made):
         """Replace the state, and keep the one before."""
-        self._past = [*self._past, self._state]
+        self._past.append(self._state)
         self._state = (book, stock, brought, made)
 
 

@@ -129,9 +129,83 @@ INTERFACE = {
         "plan_size": "(formula)", "plan_for": "(formula, pool, many)", "is_plan": "(formula, pool, value)",
         "least_pools": "(formula, many, *, most=2000)", "count_least_pools": "(formula, many)",
     },
+    "shops": {"Shop": "(formula)", "replay": "(formula, deeds)"},
+    "sides": {
+        "all_sides": "(formula)", "is_side": "(formula, value)", "side_pieces": "(formula, pool, side)",
+        "tight_sides": "(formula, pool)",
+    },
+    "steady": {"is_steady": "(book)", "steady_prices": "(book, bar)", "steady_bounds": "(book, pool)"},
+    "striking": {
+        "Strikes": "(lot, tree)", "fewest_strikes": "(book)", "all_fewest_strikes": "(book)",
+        "is_strikes": "(book, value)",
+    },
+    "times": {
+        "is_prompt": "(clashes, lengths, value)", "prompt_starts": "(clashes, lengths, order)",
+        "prompt_ends": "(clashes, lengths)", "remaining": "(clashes, lengths, starts, moment)",
+        "sure_end": "(clashes, lengths)", "heaviest_lot": "(clashes, lengths)",
+        "latest_starts": "(clashes, lengths)", "two_ends": "(clashes, *, least=0)",
+    },
+    "together": {
+        "joined_by_and": "(book, other)", "joined_by_or": "(book, other)", "so_many": "(book, number)",
+        "put_in": "(book, kind, formula)", "telling_pool": "(book, other)",
+    },
+    "turns": {
+        "last_hand": "(formula, pool, hands, *, first=0)", "turn_value": "(shops, most)",
+        "good_turn": "(shops, most)",
+    },
+    "accounts": {"count_as": "(formula, bundle)", "fall_pools": "(formula, bundle)"},
+    "cores": {
+        "is_soft": "(formula)", "core_of": "(formula)", "last_ways": "(formula)", "strike_row": "(formula)",
+        "book_path": "(one, other)", "is_book_path": "(one, other, value)",
+    },
+    "court": {"AsMany": "(formula)", "Told": "(story)", "court": "(book)", "is_verdict": "(book, value)"},
+    "rooms": {
+        "boat_book": "(boat)", "boat_formula": "(boat)", "even_rooms": "(sizes, most)", "last_even_room": "(sizes)",
+        "boats_of": "(formula)",
+    },
+    "serving": {
+        "sessions_needed": "(formula, demand)", "side_sessions": "(formula, demand, side)",
+        "tight_session_side": "(formula, demand)", "whole_cover": "(formula, demand)",
+    },
+    "used": {
+        "left_bounds": "(formula, pool)", "cheapest_left": "(formula, pool, prices)",
+        "dearest_left": "(formula, pool, prices)", "is_left_sure": "(formula, pool)",
+        "unlike_lefts": "(formula, pool)", "unsure_pool": "(formula)",
+    },
+    "worths": {
+        "blocks": "(book)", "worth_of_run": "(book, pool, run, worths)", "is_level": "(book, worths)",
+        "unlevel_runs": "(book, worths)", "level_total": "(book, pool, worths)",
+    },
+    "fair": {
+        "is_fair": "(book, prices)", "piece_worths": "(formula, prices)", "worth_steps": "(formula)",
+        "fair_prices": "(formula, worths)",
+    },
+    "filling": {
+        "is_filling": "(book, value)", "fillings": "(book)", "fewest_filling": "(book)", "forced_ways": "(book)",
+    },
+    "live": {"Live": "(book, stock)"},
+    "served": {
+        "count_served": "(formula, demand, many=1)", "all_served": "(formula, demand, many=1, *, most=2000)",
+        "is_served_by": "(formula, demand, value, many=1)",
+    },
+    "checker": {
+        "claim_words": "()", "check_claim": "(claim)", "concluded": "(book, claims)", "gathered": "(book)",
+    },
 }
 
-METHODS = {("asked", "Asker"): {"tell": "(self, number)"}}
+METHODS = {
+    ("asked", "Asker"): {"tell": "(self, number)"},
+    ("shops", "Shop"): {
+        "come": "(self, amounts)", "make": "(self, way, *, hand=0)", "undo": "(self)", "redo": "(self)",
+        "came": "(self)", "pool": "(self)", "made": "(self)", "made_by": "(self)", "still": "(self)",
+        "deeds": "(self)",
+    },
+    ("live", "Live"): {
+        "bring": "(self, name, amount)", "take": "(self, number)", "put": "(self, bundle)",
+        "strike": "(self, number)", "undo": "(self)", "changes": "(self)", "present": "(self)", "stock": "(self)",
+        "brought": "(self)", "made": "(self)", "still": "(self)", "credit": "(self)",
+    },
+}
 
 
 class Interface(unittest.TestCase):
