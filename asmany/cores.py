@@ -46,8 +46,7 @@ def book_path(one, other):
         return None
     if one == other:
         return (one,)
-    core = core_of(formula)
-    if core != core_of(goal) or core is None and (_is_full(one) or _is_full(other)):
+    if core_of(formula) != core_of(goal) or _is_full(one) or _is_full(other):
         return None
     rows = [_struck_books(one, formula), _struck_books(other, goal)]
     if rows[0][-1] != rows[1][-1]:

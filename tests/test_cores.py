@@ -207,6 +207,10 @@ class Paths(Case):
             self.assertIs(is_book_path(one, other, (one, other)), False)
         self.assertIs(is_book_path(road, road, (road,)), False)
         self.assertIs(is_book_path(soft, soft, (soft, road, soft)), False)
+        # Just the book between is uneven.
+        one, other = read_book("a, b\nc, d"), read_book("a, b\nb, c")
+        self.assertIs(is_book_path(one, other, (one, road, other)), False)
+        self.assertIs(is_book_path(one, other, (one, read_book("a, b"), other)), True)
 
     def test_wide(self):
         wide = book_of(read_formula("18 of (a or b or c)"))

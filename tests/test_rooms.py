@@ -188,7 +188,7 @@ class Rooms(Case):
     def test_errors(self):
         for sizes in STRANGE + ((0,), (201,), (1,) * 9, (1, True), [1, 2], (1, 2.0), (1, "2"), (1, -2), (1, None), "12",
                                 (Stubborn(), 1), (1, Stubborn())):
-            if sizes.__class__ is not tuple or len(sizes) != 1 or sizes[0].__class__ is not int or sizes[0] < 1:
+            if sizes.__class__ is not tuple or len(sizes) != 1 or sizes[0].__class__ is not int or not 1 <= sizes[0] <= 200:
                 self.fault(Refused, "sizes", even_rooms, sizes, None)
                 self.fault(Refused, "sizes", last_even_room, sizes)
         for most in strange_numbers() + [10001]:

@@ -49,6 +49,7 @@ class Served(Case):
         self.assertEqual(all_served(FORMULA, (1, 2, 4), 3), ((1, 2, 4),))
         self.assertEqual(count_served(formula=FORMULA, demand=(1, 2, 4)), 2)
         self.assertEqual(count_served(FORMULA, (1, 2, 4), many=3), 1)
+        self.assertEqual((count_served(FORMULA, (4, 4, 4)), count_served(FORMULA, (4, 4, 4), 2)), (3, 5))
         self.assertIs(is_served_by(formula=FORMULA, demand=(1, 2, 4), value=(1, 1, 1)), True)
         self.assertIs(is_served_by(FORMULA, (1, 2, 4), value=(1, 2, 3), many=2), True)
         self.assertIs(is_served_by(FORMULA, (1, 2, 4), (1, 2, 3)), False)

@@ -221,6 +221,8 @@ class Replay(Case):
         for deed in wrong:
             self.fault(InvalidRun, 3, replay, FORMULA, DEEDS + (deed,))
             self.fault(InvalidRun, 3, replay, FORMULA, DEEDS + (deed, deed))
+        for deed in (("again",), ("still",), ("make",), ("come",), ("redo", 0)):
+            self.fault(InvalidRun, 4, replay, FORMULA, DEEDS + (("undo",), deed))
         self.fault(InvalidRun, 0, replay, FORMULA, (("undo",),))
         self.fault(InvalidRun, 2, replay, FORMULA, (("come", (1, 1, 1)), ("undo",), ("undo",)))
         self.fault(InvalidRun, 3, replay, FORMULA, (("come", (1, 1, 1)), ("undo",), ("come", (0, 0, 0)), ("redo",)))

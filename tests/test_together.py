@@ -235,6 +235,10 @@ class PutIn(Case):
         self.fault(Refused, "wide", put_in, read_book("19 a"), "a", ("or", EIGHT[:3]))
         self.assertEqual(put_in(read_book("2 a"), "a", ("many", 30, EIGHT[0])), read_book("60 a"))
         self.fault(Refused, "wide", put_in, read_book("2 a"), "a", ("many", 31, EIGHT[0]))
+        # The greatest amount and the greatest size count, though they are not those of each way.
+        for text in ("31 of d", "d or 31 of e", "31 of d or e"):
+            self.fault(Refused, "wide", put_in, read_book("2 a, b\na, c"), "a", read_formula(text))
+        self.assertEqual(show_book(put_in(read_book("2 a, b\na, c"), "a", read_formula("30 of d"))), "c, 30 d\nb, 60 d")
         self.fault(Refused, "wide", put_in, read_book("60 a\nz"), "a", ("many", 60, ("or", EIGHT)))
         self.assertEqual(len(put_in(ROAD, "b", ("and", tuple(("kind", name) for name in "efghi"))).kinds), 8)
         self.fault(Refused, "wide", put_in, ROAD, "b", ("and", tuple(("kind", name) for name in "efghij")))
