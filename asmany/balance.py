@@ -121,4 +121,4 @@ def _reduced(rows):
     for row in rows:
         for number in row:
             common = gcd(common, number)
-    return tuple([tuple([number // common for number in row]) for row in rows])
+    return tuple([tuple([amount // common for amount in row]) for row in rows])

@@ -150,7 +150,7 @@ def _all_many(draft):
     for one in shares:
         common = gcd(common, one)
     return [
-        (("many", number, formula), tuple([one // number for one in shares]), size * number)
+        (("many", number, formula), tuple([part // number for part in shares]), size * number)
         for number in range(2, min(common, MOST_AMOUNT // size) + 1) if common % number == 0
     ]
 

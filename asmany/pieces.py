@@ -23,7 +23,7 @@ def needed(formula, pool, kind, many):
     if not is_number(many):
         raise InvalidNumber("many")
     table = dict(zip(kinds_of(formula), pool))
-    while formula[0] != "kind" and many > 0:
+    while formula[0] != "kind":
         if formula[0] == "many":
             many = many * formula[1]
             formula = formula[2]

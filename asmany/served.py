@@ -72,6 +72,7 @@ def _joined_counts(word, one, other, top):
     # Each sum of tuples of two parts comes from the numbers of their own sessions alone.
     counts = [0] * (min(top, len(one) + len(other) - 2) + 1)
     for at, x in enumerate(one):
-        for k in range(min(len(other), len(counts) - at)):
+        last = min(len(other), len(counts) - at)
+        for k in range(last):
             counts[at + k] = counts[at + k] + x * other[k]
     return counts

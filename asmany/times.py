@@ -138,8 +138,8 @@ def _ends_from(near, lengths, waiting, running, known):
         if waiting == started:
             found.append(max([rest for _, rest in now]) if now else 0)
         else:
-            rest = tuple([(job, rest - step) for job, rest in now if rest > step])
-            found.extend([step + more for more in _ends_from(near, lengths, waiting & ~started, rest, known)])
+            still = tuple([(job, rest - step) for job, rest in now if rest > step])
+            found.extend([step + more for more in _ends_from(near, lengths, waiting & ~started, still, known)])
     known[(waiting, running)] = sorted(set(found))
     return known[(waiting, running)]
 

@@ -189,6 +189,17 @@ def a_book(chance, kinds, ways, top):
     return kinds_and_ways(rows)
 
 
+def wide_book(seed):
+    """Kinds and ways of a book with 8 kinds and 200 ways, always the same one for a seed."""
+    chance = random.Random(seed)
+    rows = []
+    while len(rows) < 200:
+        row = tuple(chance.randint(0, 60) if chance.random() < 0.7 else 0 for _ in range(8))
+        if any(row) and not any(within(row, one) or within(one, row) for one in rows):
+            rows.append(row)
+    return tuple("abcdefgh"), tuple(sorted(rows))
+
+
 def all_small_books():
     """Kinds and ways of all books with up to two kinds and amounts up to 3, or three and 1."""
     found = {}

@@ -24,7 +24,7 @@ from asmany.stories import first_story
 from asmany.striking import Strikes, fewest_strikes
 from asmany.texts import read_book
 from plain import STRANGE, Case, Stubborn, all_small_books, formula_ways, least, named, nested, some_books
-from plain import some_formulas, stories, subsets, within
+from plain import some_formulas, stories, subsets, wide_book
 
 ROAD = read_book("a, b\nb, c\nc, d")
 EVEN = read_book("a, b\na, c")
@@ -344,13 +344,7 @@ class Gathered(Case):
         self.assertTrue(self.check(wide))
         for at in (0, 100, 199):
             self.assertFalse(self.check(Book(wide.kinds, wide.ways[:at] + wide.ways[at + 1:])))
-        chance = random.Random(895)
-        rows = []
-        while len(rows) < 200:
-            row = tuple(chance.randint(0, 60) if chance.random() < 0.7 else 0 for _ in range(8))
-            if any(row) and not any(within(row, one) or within(one, row) for one in rows):
-                rows.append(row)
-        self.assertFalse(self.check(Book(tuple("abcdefgh"), tuple(sorted(rows)))))
+        self.assertFalse(self.check(Book(*wide_book(895))))
         proof = ("verdict", wide, court(wide))
         part = lacking(wide, ("d",))
         self.assertEqual(concluded(part, (proof,) * 50), ("even",))

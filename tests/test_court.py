@@ -13,7 +13,7 @@ from asmany.shows import read_formula, show_formula
 from asmany.tables import formula_of_table, most_of, pair_table
 from asmany.texts import read_book
 from plain import STRANGE, Case, Stubborn, all_small_books, formula_ways, named, nested, some_books
-from plain import some_formulas, stories, within
+from plain import some_formulas, stories, wide_book
 
 ROAD = read_book("a, b\nb, c\nc, d")
 RING = read_book("a, b\nb, c\na, c")
@@ -101,13 +101,7 @@ class OfTheCourt(Case):
             self.assertIs(is_verdict(rest, found), True)
             self.assertIs(is_verdict(rest, court(wide)), False)
             self.assertIs(is_verdict(wide, found), False)
-        chance = random.Random(292)
-        rows = []
-        while len(rows) < 200:
-            row = tuple(chance.randint(0, 60) if chance.random() < 0.7 else 0 for _ in range(8))
-            if any(row) and not any(within(row, one) or within(one, row) for one in rows):
-                rows.append(row)
-        book = Book(tuple("abcdefgh"), tuple(sorted(rows)))
+        book = Book(*wide_book(292))
         self.assertIs(is_verdict(book, court(book)), True)
         self.assertIsNone(built(book))
         # A formula of very many ways is no verdict on any book.

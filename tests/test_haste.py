@@ -13,7 +13,7 @@ from asmany.parts import lacking, plenty
 from asmany.prices import mix_pool
 from asmany.rows import run_lengths, span
 from plain import STRANGE, Case, Stubborn, all_small_books, boxes, full_runs, plus, some_books, some_formulas
-from plain import formula_ways, lengths, named, strange_lots, strange_numbers, subsets, within
+from plain import formula_ways, lengths, named, strange_lots, strange_numbers, subsets, within, wide_book
 
 STAR = Book(("a", "b", "c", "d"), ((0, 0, 1, 1), (0, 1, 0, 1), (1, 0, 0, 1), (1, 1, 1, 0)))
 THREE = Book(("a", "b"), ((0, 3), (2, 1), (3, 0)))
@@ -262,13 +262,7 @@ class OfABook(Case):
                 self.assertEqual(Fraction(*haste(book)), wanted)
 
     def test_wide(self):
-        chance = random.Random(596)
-        rows = []
-        while len(rows) < 200:
-            row = tuple(chance.randint(0, 60) if chance.random() < 0.7 else 0 for _ in range(8))
-            if any(row) and not any(within(row, one) or within(one, row) for one in rows):
-                rows.append(row)
-        book = Book(tuple("abcdefgh"), tuple(sorted(rows)))
+        book = Book(*wide_book(596))
         table = price_table(book)
         values = []
         for bar in bars(book):

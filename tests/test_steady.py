@@ -13,7 +13,7 @@ from asmany.layouts import book_of
 from asmany.prices import mix_pool
 from asmany.steady import is_steady, steady_bounds, steady_prices
 from plain import Case, all_small_books, boxes, formula_ways, lengths, minus, named, some_books, some_formulas
-from plain import least_lots, strange_but, strange_lots, strange_numbers, subsets, within
+from plain import least_lots, strange_but, strange_lots, strange_numbers, subsets, wide_book
 
 STAR = Book(("a", "b", "c", "d"), ((0, 0, 1, 1), (0, 1, 0, 1), (1, 0, 0, 1), (1, 1, 1, 0)))
 THREE = Book(("a", "b"), ((0, 3), (2, 1), (3, 0)))
@@ -151,13 +151,7 @@ class Steady(Case):
             self.assertIs(is_steady(book), True)
         uneven = Book(wider.kinds, wider.ways[:90] + wider.ways[91:])
         self.assertIs(is_steady(uneven), True)
-        chance = random.Random(605)
-        rows = []
-        while len(rows) < 200:
-            row = tuple(chance.randint(0, 60) if chance.random() < 0.7 else 0 for _ in range(8))
-            if any(row) and not any(within(row, one) or within(one, row) for one in rows):
-                rows.append(row)
-        book = Book(tuple("abcdefgh"), tuple(sorted(rows)))
+        book = Book(*wide_book(605))
         self.assertIs(is_steady(book), False)
         self.fault(Refused, "unsteady", steady_bounds, book, pool)
 
