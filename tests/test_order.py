@@ -8,6 +8,7 @@ from asmany.books import Book
 from asmany.clashes import Clashes
 from asmany.errors import InvalidBook, InvalidNumber, InvalidPool, InvalidRun, Refused
 from asmany.layouts import book_of
+from asmany.nets import Net
 from asmany.shows import read_formula
 from plain import Case
 from test_calls import chosen, objects
@@ -16,6 +17,7 @@ from test_interface import INTERFACE, METHODS
 STAR = Book(("a", "b", "c", "d"), ((0, 0, 1, 1), (0, 1, 0, 1), (1, 0, 0, 1), (1, 1, 1, 0)))
 SIXTY = read_formula("60 of (a or b or c or d or e or f or g or h)")
 ELEVEN = book_of(read_formula("10 of (a or b)"))
+PATH = Clashes(4, ((0, 1), (1, 2), (2, 3)))
 GREAT = 10 ** 18
 
 POOL = ({"pool": None}, InvalidPool, -1)
@@ -104,12 +106,18 @@ ORDER = {
     "prompt_ends": (({"lengths": (1, 1)}, InvalidNumber, "lengths"),
                     ({"clashes": Clashes(9, ()), "lengths": (1,) * 9}, Refused, "wide")),
     "remaining": (({"lengths": None}, InvalidNumber, "lengths"), ({"starts": (1, 0, 0)}, Refused, "starts"), number("moment")),
+    "sure_end": (({"lengths": None}, InvalidNumber, "lengths"), ({"clashes": PATH, "lengths": (1,) * 4}, Refused, "row")),
+    "heaviest_lot": (({"lengths": (1,)}, InvalidNumber, "lengths"), ({"clashes": PATH, "lengths": (1,) * 4}, Refused, "row")),
+    "latest_starts": (({"lengths": [1] * 4}, InvalidNumber, "lengths"), ({"clashes": PATH, "lengths": (1,) * 4}, Refused, "row")),
     "clash_book": (({"clashes": Clashes(9, ())}, Refused, "wide"), ({"names": None, "clashes": Clashes(3, ())}, Refused, "names")),
     "clash_formula": (({"clashes": Clashes(9, ())}, Refused, "wide"), ({"names": None, "clashes": Clashes(3, ())}, Refused, "names")),
     "worth_of_run": (POOL, ({"run": (0, 0)}, InvalidRun, 1), ({"worths": (0, 0)}, InvalidNumber, "worths")),
     "level_total": (POOL, ({"worths": (0, True, 0)}, InvalidNumber, "worths"), ({"worths": (1, 0, 0)}, Refused, "unlevel")),
     "fair_prices": (({"worths": (4, 4)}, InvalidNumber, "worths"), ({"worths": (3,)}, Refused, "step")),
-    "joined_by_and": (({"other": ELEVEN}, Refused, "kinds"),),
+    "joined_by_and": (({"other": book_of(read_formula("a or e or f or g or h"))}, Refused, "kinds"),
+                      ({"other": book_of(read_formula("e or f or g or h or i"))}, Refused, "wide")),
+    "joined_by_or": (({"other": book_of(read_formula("a or e or f or g or h"))}, Refused, "kinds"),
+                     ({"other": book_of(read_formula("e or f or g or h or i"))}, Refused, "wide")),
     "so_many": (number("number", 61), ({"number": 60}, Refused, "wide")),
     "put_in": (({"kind": None}, Refused, "kind"), ({"formula": SIXTY}, Refused, "kinds"),
                ({"formula": ("many", 60, ("or", (("kind", "x"), ("kind", "y"), ("kind", "z"))))}, Refused, "wide")),
@@ -133,6 +141,7 @@ CLASSES = (
     (Boat, (None, None, None), Refused, "kinds"), (Boat, (("b", "a"), None, 0), Refused, "kinds"),
     (Boat, (("a",), None, 0), InvalidNumber, "room"), (Boat, (("a",), (6,), 5), Refused, "sizes"),
     (Clashes, (0, None), InvalidNumber, "jobs"), (Clashes, (61, ()), InvalidNumber, "jobs"), (Clashes, (2, ((1, 0),)), Refused, "pairs"),
+    (Net, ((("a", 0, 1), None), 0, 0), InvalidBook, -1), (Net, ((("a", 0, 1), None), 0, 1), InvalidBook, 1),
     (Book, (None, None), InvalidBook, -1), (Book, (("a",), None), InvalidBook, -1), (Book, (("a", "b"), ((1, 0), None)), InvalidBook, 1),
     (Book, (("a", "b"), ((1, 0),)), InvalidBook, 1), (Book, (("a", "b"), ()), InvalidBook, 0),
 )

@@ -218,6 +218,7 @@ class BoatsOfFormulas(Case):
             found = boats_of(formula)
             some[found is None] += 1
             self.assertIs(found is not None, self.has_boats(ways, kinds))
+            self.assertIs(found is None, self.is_taken_by_all_boats(ways, kinds))
             if found is None:
                 continue
             self.assertEqual(tuple(boat.kinds for boat in found), all_sides(formula))
@@ -233,6 +234,20 @@ class BoatsOfFormulas(Case):
             needed = [trips(boat, tuple(demand[kinds.index(kind)] for kind in boat.kinds)) for boat in found]
             self.assertEqual(max(needed), sessions_needed(formula, demand))
         self.assertGreater(min(some), 100)
+
+    def is_taken_by_all_boats(self, ways, kinds):
+        """Whether boats that take all ways take some amounts of two kinds which are within no way.
+
+        Such boats take each of the kinds alone, as much as a way has, and so any such parts of both.
+        """
+        tops = [max(way[k] for way in ways) for k in range(len(kinds))]
+        for i, j in itertools.combinations(range(len(kinds)), 2):
+            if any(way[i] == tops[i] and way[j] == tops[j] for way in ways):
+                continue
+            for x, y in boxes((tops[i], tops[j])):
+                if x * tops[j] + y * tops[i] <= tops[i] * tops[j] and not any(x <= way[i] and y <= way[j] for way in ways):
+                    return True
+        return False
 
     def has_boats(self, ways, kinds):
         """Whether each two kinds that are together in no full way meet in the smaller one of their sizes."""

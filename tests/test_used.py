@@ -142,6 +142,12 @@ class Used(Case):
             told[common] += 1
             if common:
                 self.assertGreater(len(plain_left(ways, unsure_pool(formula), {})), 1)
+            for one, other in itertools.combinations(ways, 2):
+                if any(x and y for x, y in zip(one, other)):
+                    pool = tuple(map(max, one, other))
+                    found = plain_left(ways, pool, {})
+                    self.assertTrue({minus(pool, one), minus(pool, other)} <= found)
+                    self.assertEqual((pieces(formula, pool), is_left_sure(formula, pool)), (1, False))
         self.assertGreater(min(told), 30)
 
     def test_wrong_pools(self):
