@@ -75,7 +75,7 @@ def _places_inside(net, lot, one, other):
     while roads:
         place = passed[-1]
         here = [road for road in roads if place in road[1:]]
-        if len(here) != 1 or place == other:
+        if len(here) != 1:
             return None
         roads = [road for road in roads if road != here[0]]
         passed.append(_far_end(here[0], place))

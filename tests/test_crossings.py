@@ -171,6 +171,13 @@ class Crossings(Case):
         value = ((0, 1, 2, 3), ((), ("a", "b"), ("c",), ("d",), ("e",), ("f",), ()))
         self.assertIs(is_crossing(branch, value), False)
 
+    def test_equal_places(self):
+        """Four places that are not different, with ways between them all the same."""
+        twice = Net((("a", 0, 1), ("b", 0, 1), ("c", 1, 2), ("d", 1, 2)), 0, 2)
+        self.assertIs(is_crossing(twice, ((0, 1, 1, 2), ((), ("a",), ("b",), (), ("c",), ("d",), ()))), False)
+        back = Net((("a", 1, 2), ("b", 1, 3), ("c", 2, 3), ("d", 2, 1), ("e", 3, 1), ("s", 0, 1), ("t", 1, 4)), 0, 4)
+        self.assertIs(is_crossing(back, ((1, 2, 3, 1), (("s",), ("a",), ("b",), ("c",), ("d",), ("e",), ("t",)))), False)
+
     def test_branches_at_the_ends(self):
         """But for p the start and q the goal, none of the four is one of these."""
         roads = (("a", 0, 1), ("b", 0, 2), ("c", 1, 2), ("d", 1, 3), ("e", 2, 3))

@@ -40,6 +40,13 @@ class Left(Case):
         self.assertIs(can_be_left(FORMULA, (GREAT,) * 3, (0, GREAT // 2, 1)), False)
         self.assertIs(is_used_up(("or", (A, B)), (GREAT, GREAT)), True)
 
+    def test_more_than_there_is(self):
+        """What is left is never more of a kind than there was."""
+        formula = ("many", 2, ("or", (A, B)))
+        self.assertEqual(left_pools(formula, (0, 5)), ((0, 1),))
+        for value in ((1, 0), (2, 0), (3, 1), (0, 6), (1, 1)):
+            self.assertIs(can_be_left(formula, (0, 5), value), False)
+
     def test_many(self):
         """The pools for which the difference is a sum of as many ways as there are pieces."""
         chance = random.Random(50)
