@@ -58,6 +58,8 @@ class Neighbours(Case):
         self.assertEqual(may_go(formula=FORMULA), ((("a", 1), ("b", 1), ("d", 1)), (("c", 1), ("d", 1))))
         self.assertEqual(stems(formula=FORMULA), ((), (("d", 1),)))
         self.assertEqual(may_come(formula=read_formula("4 of a or 2 of b")), ((("a", 2), ("b", 1)),))
+        both = read_formula("2 of a or 2 of b or (c and (2 of d or 2 of e))")
+        self.assertEqual(may_come(both), ((("a", 1), ("b", 1)), (("c", 1), ("d", 1), ("e", 1))))
         self.assertEqual(show_formula(formula_with(formula=FORMULA, bundle=(("d", 1), ("e", 7)))),
                          "(2 of (a or b) or c or 7 of e) and d")
         self.assertEqual(show_formula(formula_without(formula=FORMULA, bundle=(("a", 1), ("b", 1), ("d", 1)))),
